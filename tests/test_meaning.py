@@ -1,7 +1,6 @@
 """What a project and a workshop settle: points 9, 10 and 11."""
 
 import itertools
-import random
 import unittest
 
 from farenough.errors import NoTarget, Stuck
@@ -9,7 +8,9 @@ from farenough.meaning import Meaning
 from farenough.projects import Made, Project, Source
 from farenough.recipes import Recipe, TreeRecipe
 from farenough.workshops import Workshop
+from plain import Plain
 from samples import STOP, read, write
+from worlds import World
 
 
 def copy_of(*keys):
@@ -18,41 +19,6 @@ def copy_of(*keys):
     for key in reversed(keys):
         node = read((key,), (), node)
     return TreeRecipe(node)
-
-
-def trail_of(project, workshop, meaning, name):
-    """The steps of a made target up to the place at which it ended or waits, that place included."""
-    if meaning.place_of(name) is None:
-        return []
-    recipe, arguments, answers, _ = meaning.place_of(name)
-    run = workshop.begin(recipe, arguments)
-    for row in answers:
-        while run.step[0] == "write":
-            run()
-        run(row)
-    while run.step[0] == "write":
-        run()
-    return [step for _, step in run.trail] + [run.step]
-
-
-def demand_of(project, workshop, meaning, key):
-    """The demand of a key by the words of point 11."""
-    demanded, waiting = set(), [key]
-    while waiting:
-        name, output = waiting.pop()
-        if (name, output) in demanded:
-            continue
-        demanded.add((name, output))
-        if name not in project or not isinstance(project[name], Made):
-            continue
-        if isinstance(project[name].recipe, tuple):
-            waiting.append(project[name].recipe)
-        for step in trail_of(project, workshop, meaning, name):
-            if step[:2] == ("write", output):
-                break
-            if step[0] == "read":
-                waiting.extend(step[1])
-    return demanded
 
 
 class MeaningTest(unittest.TestCase):
@@ -68,21 +34,7 @@ class MeaningTest(unittest.TestCase):
         with self.assertRaises(Stuck) as caught:
             meaning.answer(key)
         ring = caught.exception.ring
-        self.assertIs(type(ring), tuple)
-        self.assertGreaterEqual(len(ring), 1)
-        self.assertEqual(len({name for name, _ in ring}), len(ring))
-        demanded = demand_of(project, workshop, meaning, key)
-        for at, (name, output) in enumerate(ring):
-            awaited = ring[(at + 1) % len(ring)]
-            self.assertIsInstance(project[name], Made)
-            self.assertIn((name, output), demanded)
-            self.assertIs(meaning.is_settled((name, output)), False)
-            if meaning.place_of(name) is None:
-                self.assertEqual(project[name].recipe, awaited)
-            else:
-                step = workshop.step_at(meaning.place_of(name))
-                self.assertEqual(step[0], "read")
-                self.assertIn(awaited, step[1])
+        self.assertTrue(Plain(project, workshop.step_at).is_ring(ring, key), (key, ring))
         with self.assertRaises(Stuck) as caught:
             meaning.answer(key)
         self.assertEqual(caught.exception.ring, ring)
@@ -378,92 +330,22 @@ class InterfaceTest(MeaningTest):
 class ChanceTest(MeaningTest):
     """Many small projects, each compared with the rules of point 9 carried out in the plainest way."""
 
-    TARGETS, OUTPUTS, TEXTS = ["a", "b", "c", "d", "e"], ["x", "y"], ["r0", "r1", "r2", "no"]
-
-    def any_key(self):
-        return self.chance.choice(self.TARGETS), self.chance.choice(self.OUTPUTS)
-
-    def any_node(self, depth, left):
-        kind = self.chance.choice(["read", "read", "write", "stop"] if depth else ["stop"])
-        if kind == "write" and left:
-            output = self.chance.choice(left)
-            part = self.chance.choice(self.TEXTS + [(1, 0), (2, 0)])
-            return write(output, (part,), self.any_node(depth - 1, [other for other in left if other != output]))
-        if kind == "read":
-            keys = tuple(dict.fromkeys(self.any_key() for _ in range(self.chance.randint(1, 2))))
-            given = [tuple(self.chance.choice(self.TEXTS + [None]) for _ in keys) for _ in range(2)]
-            cases = tuple((answers, self.any_node(depth - 1, left)) for answers in given)
-            return read(keys, cases, self.any_node(depth - 1, left))
-        return STOP
-
-    def any_target(self):
-        kind = self.chance.choice(["source", "made", "made", "made", "key"])
-        if kind == "source":
-            outputs = [output for output in self.OUTPUTS if self.chance.random() < 0.7]
-            return Source({output: self.chance.choice(self.TEXTS) for output in outputs})
-        if kind == "made":
-            return Made(self.chance.choice(self.TEXTS))
-        return Made(self.any_key())
-
-    def reference(self, project, workshop):
-        """All keys that are settled, and where the runs stand, found by starting all runs anew in each round."""
-        answers, places = {}, {}
-        while True:
-            found, places = {}, {}
-            for name in self.TARGETS:
-                self.follow(project, workshop, name, answers, found, places)
-            if found == answers:
-                return answers, places
-            answers = found
-
-    def follow(self, project, workshop, name, answers, found, places):
-        texts, done = {}, True
-        if name in project and isinstance(project[name], Source):
-            texts = project[name].outputs
-        elif name in project:
-            done, places[name], texts = self.lead(project[name], workshop, name, answers)
-        for output in self.OUTPUTS:
-            if done or output in texts:
-                found[(name, output)] = texts.get(output)
-
-    def lead(self, made, workshop, name, answers):
-        recipe = made.recipe
-        if isinstance(recipe, tuple):
-            if recipe not in answers:
-                return False, None, {}
-            recipe = answers[recipe]
-        if recipe is None:
-            return True, None, {}
-        run, texts = workshop.begin(recipe, made.arguments), {}
-        while run.step != STOP:
-            if run.step[0] == "write":
-                texts[run.step[1]] = run.step[2]
-                run()
-            elif all(key in answers for key in run.step[1]):
-                run(tuple(answers[key] for key in run.step[1]))
-            else:
-                return False, run.place, texts
-        return True, run.place, texts
-
     def test_many_projects(self):
-        self.chance = random.Random(2026)
-        stuck = 0
+        world, stuck = World(2026, [("r1", "no")]), 0
         for _ in range(1500):
-            workshop = Workshop({name: TreeRecipe(self.any_node(5, self.OUTPUTS)) for name in self.TEXTS[:3]})
-            names = [name for name in self.TARGETS if self.chance.random() < 0.9]
-            project = Project({name: self.any_target() for name in names})
+            workshop, project = world.workshop(), world.project()
             stuck += self.compare(project, workshop)
         self.assertGreater(stuck, 1000)
 
     def compare(self, project, workshop):
-        meaning, stuck = Meaning(project, workshop), 0
-        answers, places = self.reference(project, workshop)
-        for name in places:
-            self.assertEqual(meaning.place_of(name), places[name])
-        self.assertEqual(meaning.texts(), {key: text for key, text in answers.items() if text is not None})
-        for key in itertools.product(self.TARGETS, self.OUTPUTS):
-            if key in answers:
-                self.settled(meaning, key, answers[key])
+        meaning, plain, stuck = Meaning(project, workshop), Plain(project, workshop.step_at), 0
+        for name in project.names:
+            if isinstance(project[name], Made):
+                self.assertEqual(meaning.place_of(name), plain.ends[name])
+        self.assertEqual(meaning.texts(), plain.texts)
+        for key in World.KEYS:
+            if plain.is_settled(key):
+                self.settled(meaning, key, plain.answer(key))
             else:
                 self.ring_of(project, workshop, meaning, key)
                 stuck += 1

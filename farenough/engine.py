@@ -1,0 +1,77 @@
+"""Engines: they take the steps that an answer needs and that their record does not have yet."""
+
+from farenough.crews import Crew
+from farenough.records import Record
+from farenough.walkers import Walker
+
+
+class Engine:
+    """Answers for keys of projects, and keeps a record of all steps that it has seen."""
+
+    def __init__(self, workshop, *, record=None):
+        self._crew = Crew(workshop)
+        self._known = {}
+        self._news = []
+        if record is not None:
+            for place, step in record.steps():
+                self._known[place] = step
+
+    def ask(self, project, key):
+        """The answer of a key, after all steps that it needs were taken."""
+        walker = Walker(project, self._known)
+        self._take_all(walker, [key])
+        return walker.outcome(key)
+
+    def __call__(self, project, key):
+        """Asks for a key."""
+        return self.ask(project, key)
+
+    def pursue(self, project, keys):
+        """Takes all steps that these keys need; a tuple of the new ones, each with its place."""
+        return tuple(self._take_all(Walker(project, self._known), keys))
+
+    def steps(self, project, key):
+        """Yields each new step that a key needs, with its place, right after it was taken."""
+        walker = Walker(project, self._known)
+        places = walker.open_places([key])
+        while places:
+            yield self._take(places[0])
+            walker.go_on()
+            places = walker.open_places([key])
+
+    def _take_all(self, walker, keys):
+        taken = []
+        places = walker.open_places(keys)
+        while places:
+            taken.append(self._take(places[0]))
+            walker.go_on()
+            places = walker.open_places(keys)
+        return taken
+
+    def _take(self, place):
+        step = self._crew.take(place)
+        self._known[place] = step
+        self._news.append((place, step))
+        return place, step
+
+    @property
+    def record(self):
+        """The record of all steps that were seen."""
+        return Record({place: self._known[place] for place in self._known})
+
+    @property
+    def news(self):
+        """The tuple of all steps that were taken so far, each with its place."""
+        return tuple(self._news)
+
+    @property
+    def replays(self):
+        """The number of steps that were gone over again, to lead new runs to their places."""
+        return self._crew.replays
+
+    def close(self):
+        """Drops all runs that are kept."""
+        self._crew.drop_all()
+
+    def __len__(self):
+        return len(self._crew)
