@@ -1,5 +1,7 @@
 """Crews: the runs of a workshop that are kept, so that new steps are taken without going over old ones again."""
 
+from farenough.recipes import led_to
+
 
 class Crew:
     """Takes steps of a workshop. It keeps the runs that it has begun and that have not stopped."""
@@ -44,11 +46,6 @@ class Crew:
     def _led_to(self, place):
         recipe, arguments, answers, count = place
         run = self._workshop.begin(recipe, arguments)
-        for row in answers:
-            while run.step[0] == "write":
-                run()
-            run(row)
-        for _ in range(count):
-            run()
+        led_to(run, answers, count)
         self._replays += len(run.trail)
         return run

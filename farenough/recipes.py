@@ -1,6 +1,6 @@
 """Recipes, and recipes that are written as trees."""
 
-from farenough.errors import BadTree
+from farenough.errors import BadTree, Halted
 from farenough.steps import LONGEST_TEXT, are_answers, are_keys, is_integer, is_name, is_text
 
 STOP = ("stop",)
@@ -12,6 +12,54 @@ class Recipe:
     def step_at(self, arguments, answers, count):
         """The step at the place with these arguments, answers and count."""
         return STOP
+
+    def begun(self, arguments):
+        """What takes the steps of this recipe, one after the other: a Course, or what can do the same."""
+        return Course(self, arguments)
+
+
+class Course:
+    """Takes the steps of a recipe, which it asks for each of them anew."""
+
+    def __init__(self, recipe, arguments):
+        self._recipe = recipe
+        self._arguments = arguments
+        self._stand_at((), 0)
+
+    def _stand_at(self, answers, count):
+        self._answers = answers
+        self._count = count
+        self._step = self._recipe.step_at(self._arguments, answers, count)
+
+    @property
+    def step(self):
+        """The step at which it stands."""
+        return self._step
+
+    def __call__(self, answers=()):
+        """Goes over the step, for a read with these answers, to the next one."""
+        if self._step[0] == "stop":
+            raise Halted()
+        if self._step[0] == "read":
+            self._stand_at((*self._answers, answers), 0)
+        else:
+            self._stand_at(self._answers, self._count + 1)
+
+    def copied(self):
+        """An independent one at the same step."""
+        course = Course(self._recipe, self._arguments)
+        course._stand_at(self._answers, self._count)
+        return course
+
+
+def led_to(run, answers, count):
+    """Leads a run that stands at its beginning (or what takes its steps) to the place with these answers and count."""
+    for row in answers:
+        while run.step[0] == "write":
+            run()
+        run(row)
+    for _ in range(count):
+        run()
 
 
 class TreeRecipe(Recipe):

@@ -1,6 +1,5 @@
 """Runs of recipes, half done."""
 
-from farenough.errors import Halted
 from farenough.steps import after_read, after_write
 
 
@@ -9,13 +8,10 @@ class Run:
 
     def __init__(self, name, recipe, arguments=()):
         self._recipe = recipe
+        self._place = (name, arguments, (), 0)
+        self._course = recipe.begun(arguments)
+        self._step = self._course.step
         self._trail = []
-        self._stand_at((name, arguments, (), 0))
-
-    def _stand_at(self, place):
-        _, arguments, answers, count = place
-        self._step = self._recipe.step_at(arguments, answers, count)
-        self._place = place
 
     @property
     def place(self):
@@ -35,18 +31,22 @@ class Run:
     def __call__(self, answers=()):
         """Goes over the step, for a read with these answers, to the next place."""
         place, step = self._place, self._step
-        if step[0] == "stop":
-            raise Halted()
-        if step[0] == "read":
-            self._stand_at(after_read(place, answers))
-        else:
-            self._stand_at(after_write(place))
+        # This raises Halted at a stop, ahead of all changes.
+        self._course(answers)
+        self._step = self._course.step
+        self._place = after_read(place, answers) if step[0] == "read" else after_write(place)
         self._trail.append((place, step))
 
     def copied(self):
         """An independent run at the same place, with the same trail."""
-        name, arguments, _, _ = self._place
-        run = Run(name, self._recipe, arguments)
+        run = self._begun_again()
+        run._course = self._course.copied()
+        run._place = self._place
+        run._step = self._step
         run._trail = list(self._trail)
-        run._stand_at(self._place)
         return run
+
+    def _begun_again(self):
+        """A new run of the same recipe, with the same name and arguments."""
+        name, arguments, _, _ = self._place
+        return Run(name, self._recipe, arguments)

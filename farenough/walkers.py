@@ -139,18 +139,20 @@ class Walker:
         name, _ = key
         return not self.is_settled(key) and name in self._stuck_targets()
 
-    def ring_of(self, key):
-        """The ring to which the way leads that goes from a stuck key to the first stuck key it waits for, and so on."""
+    def way_from(self, key):
+        """The way from a stuck key to the first stuck key it waits for, and so on, up to one that it has already."""
         stuck = self._stuck_targets()
         way = [key]
-        # For each target on the way, where the key stands for which it waits.
-        awaited = {}
-        while way[-1][0] not in awaited:
+        while way[-1] not in way[:-1]:
             name, _ = way[-1]
-            awaited[name] = len(way)
             keys = [other for other in self.awaited_by(name) if other[0] in stuck]
             way.append(keys[0])
-        return tuple(way[awaited[way[-1][0]]:])
+        return tuple(way)
+
+    def ring_of(self, key):
+        """The ring to which the way from a stuck key leads."""
+        way = self.way_from(key)
+        return way[way.index(way[-1]):-1]
 
     def demanded_by(self, keys):
         """The list of all keys that are demanded by some of these keys."""

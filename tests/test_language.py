@@ -44,6 +44,8 @@ NO_ATTRIBUTES = set("""
 NO_NODES = (ast.Global, ast.AsyncFunctionDef, ast.AsyncFor, ast.AsyncWith, ast.Await, ast.Div)
 NO_BEGINNINGS = ("_pe_", "_dcw_", "_enum_", "_cm_", "_twin_re_", "_lay_", "_law_", "_stub_", "_sre")
 NO_PIECES = r"_wall|_WallAttr|dataclass|overload|contextmanager|\(type\)|Meta|metaclass="
+# Attributes that keep objects with a `__call__`.
+CALLED = {"_course"}
 DECORATORS = ["property", "staticmethod", "classmethod"]
 LIBRARY = {"heapq", "math", "itertools"}
 
@@ -195,7 +197,7 @@ class NamesTest(unittest.TestCase):
                 self.assertNotIn(node.attr, NO_ATTRIBUTES | NO_NAMES, where)
         for where, node in nodes(ast.Call):
             if isinstance(node.func, ast.Attribute):
-                self.assertIn(node.func.attr, METHODS | own | {"__init__"}, where)
+                self.assertIn(node.func.attr, METHODS | own | CALLED | {"__init__"}, where)
 
     def test_no_local_name_is_that_of_a_class_or_an_import(self):
         for path, tree in trees():
@@ -213,6 +215,28 @@ class NamesTest(unittest.TestCase):
             self.assertEqual(len(set(names)), len(names) - self.setters(node), where)
             if "__getitem__" in names:
                 self.assertIn("__iter__", names, where)
+
+    def test_names_of_properties_are_not_those_of_methods(self):
+        properties, methods, generators = set(), set(), set()
+        for where, node in nodes(ast.FunctionDef):
+            decorators = [ast.unparse(decorator) for decorator in node.decorator_list]
+            (properties if "property" in decorators else methods).add(node.name)
+            if any(isinstance(part, (ast.Yield, ast.YieldFrom)) for part in ast.walk(node)):
+                generators.add(node.name)
+        functions = {part.name for _, tree in trees() for part in tree.body if isinstance(part, ast.FunctionDef)}
+        self.assertEqual(properties & (methods - functions), set())
+        stored = {node.attr for _, node in nodes(ast.Attribute) if isinstance(node.ctx, ast.Store)}
+        self.assertEqual(stored & generators, set())
+        for name in ["add", "discard"]:
+            self.assertNotIn(name, [node.func.attr for _, node in nodes(ast.Call)
+                                    if isinstance(node.func, ast.Attribute)])
+
+    def test_a_class_does_not_call_a_method_as_it_calls_an_attribute(self):
+        for where, node in nodes(ast.ClassDef):
+            methods = {part.name for part in node.body if isinstance(part, ast.FunctionDef)}
+            stored = {part.attr for part in ast.walk(node) if isinstance(part, ast.Attribute)
+                      and isinstance(part.ctx, ast.Store)}
+            self.assertEqual(methods & stored, set(), where)
 
     def setters(self, node):
         return len([part for part in node.body if isinstance(part, ast.FunctionDef)

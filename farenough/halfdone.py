@@ -1,0 +1,89 @@
+"""Runs of programs, which can be put into writing half done."""
+
+from farenough.compiling import Compiler
+from farenough.machines import ProgramRecipe
+from farenough.runs import Run
+from farenough.wording import WordReader, line_of, word_of
+
+
+class ProgramRun(Run):
+    """A run of a program under a name."""
+
+    def __init__(self, name, program, arguments=()):
+        super().__init__(name, ProgramRecipe(program), arguments)
+        self._program = program
+        self._compiler = Compiler(program.parsed())
+
+    def copied(self):
+        """An independent run at the same place, with the same trail."""
+        return super().copied()
+
+    def _begun_again(self):
+        name, arguments, _, _ = self._place
+        return ProgramRun(name, self._program, arguments)
+
+    def saved(self):
+        """A text from which the run can be restored."""
+        name, arguments, answers, count = self._place
+        lines = [line_of("run", [name, *arguments])]
+        for row in answers:
+            lines.append(line_of("answers", row))
+        lines.append(" ".join(["written", *self._course.written()]))
+        lines.append(f"count {count}")
+        if self._step[0] == "stop":
+            lines.append("at end")
+        else:
+            lines.extend(self._lines_of_statement())
+        return "\n".join(lines)
+
+    def _lines_of_statement(self):
+        spot = self._compiler.spot_in(self._course.row_of_step())
+        lines = [f"at {spot.number} {self._course.turns_before()}"]
+        for number, index, bound in spot.loops:
+            lines.append(line_of("loop", [number, self._course.value_of(index), self._course.value_of(bound)]))
+        for name, variable in spot.variables:
+            lines.append(f"let {name} {word_of(self._course.value_of(variable))}")
+        return lines
+
+    @classmethod
+    def restored(cls, program, saved):
+        """A run that goes on as the saved one would."""
+        told = _told_by(saved)
+        name, *arguments = told["run"][0]
+        run = cls(name, program, tuple(arguments))
+        run._restore(told)
+        return run
+
+    def _restore(self, told):
+        """Goes to where a saved run stood."""
+        name, arguments, _, _ = self._place
+        self._place = (name, arguments, tuple([tuple(row) for row in told["answers"]]), told["count"][0][0])
+        row, turns, variables = len(self._compiler.rows()) - 1, 0, {}
+        if told["at"][0] != ["end"]:
+            number, turns = map(int, told["at"][0])
+            spot = self._compiler.spot_of(number)
+            row = spot.begin
+            for (_, index, bound), (_, index_value, bound_value) in zip(spot.loops, told["loop"]):
+                variables[index] = index_value
+                variables[bound] = bound_value
+            for (_, variable), value in zip(spot.variables, told["let"]):
+                variables[variable] = value
+        self._course.go_on_from(row, turns, told["written"][0], variables)
+        self._step = self._course.step
+
+
+def _told_by(saved):
+    """What the lines of a saved run tell: by their first words, for each line a list of what stands behind it."""
+    told = {word: [] for word in ("run", "answers", "written", "count", "at", "loop", "let")}
+    for line in saved.split("\n"):
+        reader = WordReader(line)
+        first = reader.word()
+        if first in ("written", "at"):
+            told[first].append(reader.words())
+        elif first == "let":
+            # The name goes without saying: the variables stand in the order of the program.
+            reader.word()
+            told[first].append(reader.value())
+        else:
+            told[first].append(reader.values())
+    return told

@@ -1,0 +1,317 @@
+"""The lines of a program: which forms they have, and where they may stand."""
+
+from farenough.errors import BadLine
+from farenough.outlines import DEEPEST, Outline
+from farenough.steps import MOST_ARGUMENTS, MOST_KEYS
+from farenough.tokens import FUNCTIONS, tokens_of
+
+MOST_PARAMETERS = 4
+# The operators by how tightly they bind, the loosest ones first.
+LEVELS = (("else",), ("+", "-", "&"), ("*", "/", "mod"))
+_COMPARISONS = ("=", "!=", "<", "<=", ">", ">=", "in")
+_KINDS = ("text", "number", "list")
+
+
+class Line:
+    """A line of a program.
+
+    `uses` has all names from the left, each behind what the line does with it: `new`, `function`, `set`, `use` or
+    `call`. `codes` has the expressions of the line. An expression is a tuple of parts in the order in which a machine
+    with a stack does them: `number`, `text`, `name`, `list`, `op` (an operator, or a function that all programs have)
+    or `call` (one of its own), then the value or the name, then the number of operands that are taken from the stack.
+    `tests` has the condition of an `if`: in tuples of which one has to hold, tests that all have to hold. A test has
+    the number of times that `not` stands before it, its name, and its expressions. `kinds` has the kinds of the
+    parameters and of the result of a definition.
+    """
+
+    def __init__(self, word, number, reader):
+        self.word = word
+        self.number = number
+        self.uses = reader.uses
+        self.codes = reader.codes
+        self.tests = reader.tests
+        self.kinds = reader.kinds
+
+    def named(self, role):
+        """The names with which the line does this, from the left."""
+        return [name for use, name in self.uses if use == role]
+
+
+class LineReader:
+    """Reads the tokens of one line from the left, and keeps what the line has. Raises BadLine."""
+
+    def __init__(self, tokens, number):
+        self._tokens = tokens
+        self._number = number
+        self._at = 0
+        self._depth = 0
+        self.uses = []
+        self.codes = []
+        self.tests = []
+        self.kinds = []
+
+    def read_line(self):
+        """The line that the tokens make."""
+        word = self._next_of(_FIRST_WORDS)
+        form = _FORMS[word]
+        form(self)
+        if self._at < len(self._tokens):
+            raise BadLine(self._number)
+        return Line(word, self._number, self)
+
+    def sees(self, marks):
+        """Whether one of these keywords and signs comes next."""
+        if self._at == len(self._tokens):
+            return False
+        kind, value = self._tokens[self._at]
+        return kind == "mark" and value in marks
+
+    def _next(self):
+        if self._at == len(self._tokens):
+            raise BadLine(self._number)
+        self._at += 1
+        return self._tokens[self._at - 1]
+
+    def _next_of(self, marks):
+        if not self.sees(marks):
+            raise BadLine(self._number)
+        return self._next()[1]
+
+    def mark(self, mark):
+        """Goes over this keyword or sign."""
+        self._next_of((mark,))
+
+    def goes_over(self, mark):
+        """Goes over this keyword or sign, if it comes next; whether it did."""
+        seen = self.sees((mark,))
+        if seen:
+            self._at += 1
+        return seen
+
+    def name(self, role):
+        """Reads a name with which the line does this."""
+        kind, name = self._next()
+        if kind != "name":
+            raise BadLine(self._number)
+        self.uses.append((role, name))
+
+    def kind(self):
+        """Reads a kind."""
+        self.kinds.append(self._next_of(_KINDS))
+
+    def several(self, most, form):
+        """Reads one of a form, and more of them behind commas."""
+        many = 1
+        form(self)
+        while self.goes_over(","):
+            many += 1
+            form(self)
+        if many > most:
+            raise BadLine(self._number)
+
+    def first_names(self):
+        """Reads the names in the first line."""
+        while self._at < len(self._tokens):
+            self.name("new")
+        if len(self.uses) > MOST_ARGUMENTS or len(set(self.uses)) < len(self.uses):
+            raise BadLine(self._number)
+
+    def expression(self):
+        """Reads an expression."""
+        code = []
+        self._joined(0, code)
+        self.codes.append(tuple(code))
+
+    def _joined(self, level, code):
+        """Reads what operators of this level and of tighter ones join."""
+        if level == len(LEVELS):
+            self._unit(code)
+            return
+        self._joined(level + 1, code)
+        while self.sees(LEVELS[level]):
+            _, sign = self._next()
+            self._joined(level + 1, code)
+            code.append(("op", sign, 2))
+
+    def _unit(self, code):
+        kind, value = self._next()
+        if kind == "name" and self.sees(("(",)):
+            self.uses.append(("call", value))
+            self._call("call", value, code)
+        elif kind == "mark" and value in FUNCTIONS:
+            self._call("op", value, code)
+        elif kind == "mark":
+            self._inner_unit(value, code)
+        else:
+            if kind == "name":
+                self.uses.append(("use", value))
+            code.append((kind, value, 0))
+
+    def _call(self, word, name, code):
+        self.mark("(")
+        many = self._inner_list(")", code)
+        code.append((word, name, many))
+
+    def _inner_unit(self, sign, code):
+        """Reads on behind a sign that begins a unit."""
+        if sign == "(":
+            self._deeper()
+            self._joined(0, code)
+            self.mark(")")
+            self._depth -= 1
+        elif sign == "[":
+            many = self._inner_list("]", code)
+            code.append(("list", "", many))
+        elif sign == "-":
+            self._deeper()
+            self._unit(code)
+            code.append(("op", "neg", 1))
+            self._depth -= 1
+        else:
+            raise BadLine(self._number)
+
+    def _inner_list(self, end, code):
+        """Reads expressions up to the sign that ends them; how many there are."""
+        many = 0
+        self._deeper()
+        if not self.sees((end,)):
+            many += 1
+            self._joined(0, code)
+            while self.goes_over(","):
+                many += 1
+                self._joined(0, code)
+        self.mark(end)
+        self._depth -= 1
+        return many
+
+    def _deeper(self):
+        self._depth += 1
+        if self._depth > DEEPEST:
+            raise BadLine(self._number)
+
+    def condition(self):
+        """Reads a condition."""
+        groups = [[self._test()]]
+        while self.sees(("and", "or")):
+            if self._next()[1] == "or":
+                groups.append([])
+            groups[-1].append(self._test())
+        self.tests = [tuple(group) for group in groups]
+
+    def _test(self):
+        nots = 0
+        while self.goes_over("not"):
+            self._deeper()
+            nots += 1
+        begin = len(self.codes)
+        if self.goes_over("known"):
+            name = "known"
+            self.expression()
+        else:
+            self.expression()
+            name = self._next_of(_COMPARISONS)
+            self.expression()
+        self._depth -= nots
+        return nots, name, tuple(self.codes[begin:])
+
+
+def _recipe(reader):
+    reader.first_names()
+
+
+def _define(reader):
+    reader.name("function")
+    reader.mark("(")
+    if not reader.sees((")",)):
+        reader.several(MOST_PARAMETERS, _parameter)
+    reader.mark(")")
+    reader.mark("gives")
+    reader.kind()
+
+
+def _parameter(reader):
+    reader.kind()
+    reader.name("new")
+
+
+def _one_expression(reader):
+    reader.expression()
+
+
+def _let(reader):
+    reader.name("new")
+    reader.mark("=")
+    reader.expression()
+
+
+def _set(reader):
+    reader.name("set")
+    reader.mark("=")
+    reader.expression()
+
+
+def _read(reader):
+    reader.several(MOST_KEYS, _one_read)
+
+
+def _one_read(reader):
+    reader.name("new")
+    reader.mark("from")
+    reader.expression()
+    reader.mark(".")
+    reader.expression()
+
+
+def _write(reader):
+    reader.expression()
+    reader.mark("=")
+    reader.expression()
+
+
+def _if(reader):
+    reader.condition()
+
+
+def _repeat(reader):
+    reader.expression()
+    if reader.goes_over("as"):
+        reader.name("new")
+
+
+def _for(reader):
+    reader.name("new")
+    reader.mark("in")
+    reader.expression()
+
+
+def _nothing(reader):
+    pass
+
+
+_FORMS = {
+    "recipe": _recipe, "define": _define, "give": _one_expression, "let": _let, "set": _set, "read": _read,
+    "write": _write, "stop": _nothing, "if": _if, "else": _nothing, "end": _nothing, "repeat": _repeat, "for": _for,
+    "leave": _nothing, "again": _nothing,
+}
+_FIRST_WORDS = (
+    "recipe", "define", "give", "let", "set", "read", "write", "stop", "if", "else", "end", "repeat", "for", "leave",
+    "again",
+)
+
+
+def lines_of(text):
+    """The list of the lines of a program that have tokens; raises BadLine."""
+    pieces = text.split("\n")
+    lines, outline = [], Outline()
+    for number, piece in enumerate(pieces):
+        tokens = tokens_of(piece)
+        if tokens is None:
+            raise BadLine(number)
+        if tokens:
+            line = LineReader(tokens, number).read_line()
+            if not outline.takes(line.word):
+                raise BadLine(number)
+            lines.append(line)
+    if not outline.is_whole():
+        raise BadLine(len(pieces))
+    return lines

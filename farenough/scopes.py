@@ -1,0 +1,41 @@
+"""Which variables of a program are visible at a line."""
+
+from farenough.outlines import BLOCKS
+
+
+class Scope:
+    """The variables that are visible at the line of a program that was reached. Each name has a value."""
+
+    def __init__(self):
+        self._rows = []
+        # How many variables there were where each part began that is not ended.
+        self._begins = []
+        # The variables of the first line, which are not visible in a definition.
+        self._hidden = 0
+
+    def is_within_block(self):
+        """Whether the line that was reached is within a block."""
+        return len(self._begins) > 0
+
+    def visible(self):
+        """The list of the visible names, each with its value, in the order in which they were introduced."""
+        return self._rows[self._hidden:]
+
+    def value_of(self, name):
+        """The value of a name, or None if it is not visible."""
+        for other, value in self.visible():
+            if other == name:
+                return value
+        return None
+
+    def goes_over(self, word, rows):
+        """Goes on behind a line with this first word, which introduces these pairs of a name and a value."""
+        if word in ("else", "end"):
+            self._rows = self._rows[:self._begins.pop()]
+        if word == "define":
+            self._hidden = len(self._rows)
+        elif not self._begins:
+            self._hidden = 0
+        if word in BLOCKS or word == "else":
+            self._begins.append(len(self._rows))
+        self._rows = [*self._rows, *rows]
