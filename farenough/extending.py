@@ -1,7 +1,9 @@
 """Records that go further than what was seen, so that an open key is settled as wanted."""
 
+from farenough.projects import Source
 from farenough.records import Record
 from farenough.recipes import STOP
+from farenough.steps import is_key
 from farenough.walkers import Walker
 
 
@@ -11,11 +13,12 @@ def extended_to(project, record, key, answer):
     for place, step in record.steps():
         known[place] = step
     walker = Walker(project, known)
-    # No place of the record has this text: a run that is given it is open there, and waits for nothing more.
-    fresh = _fresh_text(known)
+    # A run that is given a text that was nowhere before is open then: it waits for nothing more, and it does not come
+    # to places that were added here for other runs.
+    taken = _texts_in(project, known)
     other = _first_to_settle(walker, key)
     while other != key:
-        known[walker.open_place_of(other[0])] = ("write", other[1], fresh)
+        known[walker.open_place_of(other[0])] = ("write", other[1], _fresh_text(taken))
         walker.go_on()
         other = _first_to_settle(walker, key)
     known[walker.open_place_of(key[0])] = STOP if answer is None else ("write", key[1], answer)
@@ -29,15 +32,30 @@ def _first_to_settle(walker, key):
     return key
 
 
-def _fresh_text(known):
-    """A text that is neither the name of a recipe nor an answer in these places."""
+def _texts_in(project, known):
+    """A new dict of the texts that are answers or names of recipes, or may become so."""
     taken = {}
-    for recipe, _, answers, _ in known:
+    for (recipe, _, answers, _), step in known.items():
         taken[recipe] = True
         for row in answers:
             for answer in row:
                 taken[answer] = True
+        if step[0] == "write":
+            taken[step[2]] = True
+    for name in project.names:
+        target = project[name]
+        if isinstance(target, Source):
+            for text in target.outputs.values():
+                taken[text] = True
+        elif not is_key(target.recipe):
+            taken[target.recipe] = True
+    return taken
+
+
+def _fresh_text(taken):
+    """A text that is not among the taken ones. It is one of them then."""
     number = 0
     while str(number) in taken:
         number += 1
+    taken[str(number)] = True
     return str(number)
