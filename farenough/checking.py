@@ -125,8 +125,6 @@ def _introduced(line, kinds):
         kinds = line.kinds
     elif line.word == "read":
         kinds = ["answer"] * len(names)
-    elif line.word == "repeat":
-        kinds = ["number"]
-    elif line.word != "let":
+    elif line.word not in ("let", "repeat"):
         kinds = ["text"] * len(names)
     return [(name, (kind, line.word not in LOOPS)) for name, kind in zip(names, kinds)]

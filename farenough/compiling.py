@@ -10,10 +10,10 @@ _EMPTY = {"text": "", "number": 0, "list": ()}
 class Spot:
     """Where a step of a program stands."""
 
-    def __init__(self, number, begin, loops, variables):
+    def __init__(self, number, first_row, loops, variables):
         self.number = number
         # The row with which its statement begins.
-        self.begin = begin
+        self.first_row = first_row
         # For each loop around it, from the outside: the number of its line, and the variables with its round and bound.
         self.loops = loops
         # For each variable that is visible, its name and its number in the rows.

@@ -20,7 +20,7 @@ class Engine:
         """The answer of a key, after all steps that it needs were taken."""
         walker = Walker(project, self._known)
         self._take_all(walker, [key])
-        return walker.outcome(key)
+        return walker.settled_answer(key)
 
     def __call__(self, project, key):
         """Asks for a key."""

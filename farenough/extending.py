@@ -3,7 +3,6 @@
 from farenough.projects import Source
 from farenough.records import Record
 from farenough.recipes import STOP
-from farenough.steps import is_key
 from farenough.walkers import Walker
 
 
@@ -47,7 +46,7 @@ def _texts_in(project, known):
         if isinstance(target, Source):
             for text in target.outputs.values():
                 taken[text] = True
-        elif not is_key(target.recipe):
+        elif isinstance(target.recipe, str):
             taken[target.recipe] = True
     return taken
 

@@ -2,7 +2,7 @@
 
 from farenough.errors import NotOpen
 from farenough.extending import extended_to
-from farenough.steps import is_integer, is_key
+from farenough.steps import is_integer
 from farenough.walkers import Walker
 from farenough.walks import walk
 
@@ -50,15 +50,16 @@ class Never(Future):
 
     def holds(self, project, record, key):
         """Whether each key on the way waits for the next one along the record."""
-        way = self.way
-        if not isinstance(way, tuple) or len(way) < 2 or not all([is_key(item) for item in way]):
-            return False
-        *rest, last = way
-        if way[0] != key or last not in rest or len(set(rest)) < len(rest):
+        if not isinstance(self.way, tuple) or len(self.way) < 2 or self.way[0] != key:
             return False
         walker = Walker(project, record)
-        return all([not walker.is_settled(item) and following in walker.awaited_by(item[0])
-                    for item, following in zip(rest, way[1:])])
+        for at, following in enumerate(self.way[1:]):
+            # The item ahead is a key: it is the one that is asked for, or one that another key waits for.
+            item = self.way[at]
+            if walker.is_settled(item) or following not in walker.awaited_by(item[0]):
+                return False
+        *rest, last = self.way
+        return last in rest and len(set(rest)) == len(rest)
 
 
 class Open(Future):

@@ -62,7 +62,7 @@ class ProgramRun(Run):
         if told["at"][0] != ["end"]:
             number, turns = map(int, told["at"][0])
             spot = self._compiler.spot_of(number)
-            row = spot.begin
+            row = spot.first_row
             for (_, index, bound), (_, index_value, bound_value) in zip(spot.loops, told["loop"]):
                 variables[index] = index_value
                 variables[bound] = bound_value
@@ -77,13 +77,13 @@ def _told_by(saved):
     told = {word: [] for word in ("run", "answers", "written", "count", "at", "loop", "let")}
     for line in saved.split("\n"):
         reader = WordReader(line)
-        first = reader.word()
+        first = reader.next_word()
         if first in ("written", "at"):
-            told[first].append(reader.words())
+            told[first].append(reader.all_words())
         elif first == "let":
             # The name goes without saying: the variables stand in the order of the program.
-            reader.word()
-            told[first].append(reader.value())
+            reader.next_word()
+            told[first].append(reader.next_value())
         else:
-            told[first].append(reader.values())
+            told[first].append(reader.all_values())
     return told

@@ -77,7 +77,7 @@ class LineReader:
             raise BadLine(self._number)
         return self._next()[1]
 
-    def mark(self, mark):
+    def read_mark(self, mark):
         """Goes over this keyword or sign."""
         self._next_of((mark,))
 
@@ -88,18 +88,18 @@ class LineReader:
             self._at += 1
         return seen
 
-    def name(self, role):
+    def read_name(self, role):
         """Reads a name with which the line does this."""
         kind, name = self._next()
         if kind != "name":
             raise BadLine(self._number)
         self.uses.append((role, name))
 
-    def kind(self):
+    def read_kind(self):
         """Reads a kind."""
         self.kinds.append(self._next_of(_KINDS))
 
-    def several(self, most, form):
+    def read_several(self, most, form):
         """Reads one of a form, and more of them behind commas."""
         many = 1
         form(self)
@@ -109,14 +109,14 @@ class LineReader:
         if many > most:
             raise BadLine(self._number)
 
-    def first_names(self):
+    def read_first_names(self):
         """Reads the names in the first line."""
         while self._at < len(self._tokens):
-            self.name("new")
+            self.read_name("new")
         if len(self.uses) > MOST_ARGUMENTS or len(set(self.uses)) < len(self.uses):
             raise BadLine(self._number)
 
-    def expression(self):
+    def read_expression(self):
         """Reads an expression."""
         code = []
         self._joined(0, code)
@@ -148,7 +148,7 @@ class LineReader:
             code.append((kind, value, 0))
 
     def _call(self, word, name, code):
-        self.mark("(")
+        self.read_mark("(")
         many = self._inner_list(")", code)
         code.append((word, name, many))
 
@@ -157,7 +157,7 @@ class LineReader:
         if sign == "(":
             self._deeper()
             self._joined(0, code)
-            self.mark(")")
+            self.read_mark(")")
             self._depth -= 1
         elif sign == "[":
             many = self._inner_list("]", code)
@@ -180,7 +180,7 @@ class LineReader:
             while self.goes_over(","):
                 many += 1
                 self._joined(0, code)
-        self.mark(end)
+        self.read_mark(end)
         self._depth -= 1
         return many
 
@@ -189,7 +189,7 @@ class LineReader:
         if self._depth > DEEPEST:
             raise BadLine(self._number)
 
-    def condition(self):
+    def read_condition(self):
         """Reads a condition."""
         groups = [[self._test()]]
         while self.sees(("and", "or")):
@@ -206,82 +206,82 @@ class LineReader:
         begin = len(self.codes)
         if self.goes_over("known"):
             name = "known"
-            self.expression()
+            self.read_expression()
         else:
-            self.expression()
+            self.read_expression()
             name = self._next_of(_COMPARISONS)
-            self.expression()
+            self.read_expression()
         self._depth -= nots
         return nots, name, tuple(self.codes[begin:])
 
 
 def _recipe(reader):
-    reader.first_names()
+    reader.read_first_names()
 
 
 def _define(reader):
-    reader.name("function")
-    reader.mark("(")
+    reader.read_name("function")
+    reader.read_mark("(")
     if not reader.sees((")",)):
-        reader.several(MOST_PARAMETERS, _parameter)
-    reader.mark(")")
-    reader.mark("gives")
-    reader.kind()
+        reader.read_several(MOST_PARAMETERS, _parameter)
+    reader.read_mark(")")
+    reader.read_mark("gives")
+    reader.read_kind()
 
 
 def _parameter(reader):
-    reader.kind()
-    reader.name("new")
+    reader.read_kind()
+    reader.read_name("new")
 
 
 def _one_expression(reader):
-    reader.expression()
+    reader.read_expression()
 
 
 def _let(reader):
-    reader.name("new")
-    reader.mark("=")
-    reader.expression()
+    reader.read_name("new")
+    reader.read_mark("=")
+    reader.read_expression()
 
 
 def _set(reader):
-    reader.name("set")
-    reader.mark("=")
-    reader.expression()
+    reader.read_name("set")
+    reader.read_mark("=")
+    reader.read_expression()
 
 
 def _read(reader):
-    reader.several(MOST_KEYS, _one_read)
+    reader.read_several(MOST_KEYS, _one_read)
 
 
 def _one_read(reader):
-    reader.name("new")
-    reader.mark("from")
-    reader.expression()
-    reader.mark(".")
-    reader.expression()
+    reader.read_name("new")
+    reader.read_mark("from")
+    reader.read_expression()
+    reader.read_mark(".")
+    reader.read_expression()
 
 
 def _write(reader):
-    reader.expression()
-    reader.mark("=")
-    reader.expression()
+    reader.read_expression()
+    reader.read_mark("=")
+    reader.read_expression()
 
 
 def _if(reader):
-    reader.condition()
+    reader.read_condition()
 
 
 def _repeat(reader):
-    reader.expression()
+    reader.read_expression()
     if reader.goes_over("as"):
-        reader.name("new")
+        reader.read_name("new")
 
 
 def _for(reader):
-    reader.name("new")
-    reader.mark("in")
-    reader.expression()
+    reader.read_name("new")
+    reader.read_mark("in")
+    reader.read_expression()
 
 
 def _nothing(reader):

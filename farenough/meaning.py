@@ -25,7 +25,7 @@ class Meaning:
 
     def answer(self, key):
         """The answer of a key that is settled."""
-        return self._walker.outcome(key)
+        return self._walker.settled_answer(key)
 
     def texts(self):
         """A new dict of the texts of all keys that are settled as one."""

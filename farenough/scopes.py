@@ -9,13 +9,13 @@ class Scope:
     def __init__(self):
         self._rows = []
         # How many variables there were where each part began that is not ended.
-        self._begins = []
+        self._starts = []
         # The variables of the first line, which are not visible in a definition.
         self._hidden = 0
 
     def is_within_block(self):
         """Whether the line that was reached is within a block."""
-        return len(self._begins) > 0
+        return len(self._starts) > 0
 
     def visible(self):
         """The list of the visible names, each with its value, in the order in which they were introduced."""
@@ -31,11 +31,11 @@ class Scope:
     def goes_over(self, word, rows):
         """Goes on behind a line with this first word, which introduces these pairs of a name and a value."""
         if word in ("else", "end"):
-            self._rows = self._rows[:self._begins.pop()]
+            self._rows = self._rows[:self._starts.pop()]
         if word == "define":
             self._hidden = len(self._rows)
-        elif not self._begins:
+        elif not self._starts:
             self._hidden = 0
         if word in BLOCKS or word == "else":
-            self._begins.append(len(self._rows))
+            self._starts.append(len(self._rows))
         self._rows = [*self._rows, *rows]

@@ -2,7 +2,7 @@
 
 from farenough.errors import Stuck
 from farenough.projects import Made
-from farenough.steps import after_read, after_write, in_order, is_key
+from farenough.steps import after_read, after_write, in_order
 
 
 class Walker:
@@ -50,7 +50,7 @@ class Walker:
     def _begins(self, name):
         made = self._made[name]
         recipe = made.recipe
-        if is_key(recipe):
+        if not isinstance(recipe, str):
             if not self.is_settled(recipe):
                 return False
             recipe = self.answer_of(recipe)
@@ -84,7 +84,7 @@ class Walker:
         """The answer of a key that is settled."""
         return self._texts.get(key)
 
-    def outcome(self, key):
+    def settled_answer(self, key):
         """The answer of a key; raises Stuck if it is not settled. (It is not open.)"""
         if not self.is_settled(key):
             raise Stuck(self.ring_of(key))
@@ -115,7 +115,7 @@ class Walker:
 
     def awaited_by(self, name):
         """The keys for which a made target waits: those that are not settled of the next it needs."""
-        if name in self._over or name not in self._made:
+        if name in self._over:
             return []
         if name not in self._places:
             keys = [self._made[name].recipe]
@@ -135,9 +135,9 @@ class Walker:
         return stuck
 
     def is_stuck(self, key):
-        """Whether a key is stuck: neither settled nor open."""
+        """Whether a key that is not settled is stuck, and not open."""
         name, _ = key
-        return not self.is_settled(key) and name in self._stuck_targets()
+        return name in self._stuck_targets()
 
     def way_from(self, key):
         """The way from a stuck key to the first stuck key it waits for, and so on, up to one that it has already."""
@@ -171,7 +171,8 @@ class Walker:
         name, output = key
         if name not in self._made:
             return []
-        keys = [self._made[name].recipe] if is_key(self._made[name].recipe) else []
+        recipe = self._made[name].recipe
+        keys = [] if isinstance(recipe, str) else [recipe]
         for _, step in self._way_to(name, [output]):
             if step[0] == "read":
                 keys.extend(step[1])
@@ -181,7 +182,7 @@ class Walker:
         """The pairs on the way of a target up to the last write of these outputs; all if one is never written."""
         way = list(self._trails.get(name, []))
         place = self._places.get(name)
-        if place is not None and place in self._known:
+        if place in self._known:
             way.append((place, self._known[place]))
         writes = [at for at, (_, step) in enumerate(way) if step[0] == "write" and step[1] in outputs]
         return way[:writes[-1] + 1] if len(writes) == len(outputs) else way

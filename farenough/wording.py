@@ -28,20 +28,20 @@ class WordReader:
         """Whether no word is left."""
         return self._at >= len(self._line)
 
-    def word(self):
+    def next_word(self):
         """The next word, as it stands."""
         word, _, _ = self._line[self._at:].partition(" ")
         self._at += len(word) + 1
         return word
 
-    def value(self):
+    def next_value(self):
         """The value that the next word or words stand for."""
-        word = self.word()
+        word = self.next_word()
         length, colon, _ = word.partition(":")
         if word == "-":
             return None
         if word == "[":
-            return self._texts()
+            return self._list()
         if not colon:
             return int(word)
         # What was gone over as a word may be only the beginning of the text.
@@ -49,23 +49,23 @@ class WordReader:
         self._at = begin + int(length) + 1
         return self._line[begin:begin + int(length)]
 
-    def _texts(self):
+    def _list(self):
         texts = []
         while not self._line.startswith("]", self._at):
-            texts.append(self.value())
-        self.word()
+            texts.append(self.next_value())
+        self.next_word()
         return tuple(texts)
 
-    def values(self):
+    def all_values(self):
         """The list of the values of all words that are left."""
         values = []
         while not self.is_over():
-            values.append(self.value())
+            values.append(self.next_value())
         return values
 
-    def words(self):
+    def all_words(self):
         """The list of all words that are left, as they stand."""
         words = []
         while not self.is_over():
-            words.append(self.word())
+            words.append(self.next_word())
         return words

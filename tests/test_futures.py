@@ -245,10 +245,19 @@ class ComeToTest(FutureTest):
             for answer in [None, "", "0", "1", "7"]:
                 for key in [("c", "y"), ("c", "x"), ("a", "y"), ("a", "x")]:
                     self.comes_to(project, record, key, answer)
-        for name in ["0", "1", "2"]:
-            other = project.put("a", Made(name)).put("e", Source({"a": "1"})).put("b", Made(("e", "a")))
-            for key in [("c", "y"), ("b", "x")]:
-                self.comes_to(other, Record(rows), key, "7")
+
+    def test_names_of_recipes_that_come_from_elsewhere(self):
+        """The recipe of `b` is named by a text that the new steps must not use again."""
+        rows = [(at("r"), ("read", (("b", "y"),)))]
+        project = Project({"c": Made(("d", "x")), "d": Made("r")})
+        seen = rows + [(at("w"), ("write", "x", "1"))]
+        for answer in [None, "", "0", "7"]:
+            for recipe in ["0", "1", "2"]:
+                self.comes_to(project.put("b", Made(recipe)), Record(rows), ("c", "y"), answer)
+            other = project.put("b", Made(("e", "a"))).write("e", "a", "1")
+            self.comes_to(other, Record(rows), ("c", "y"), answer)
+            other = project.put("b", Made(("w", "x"))).put("w", Made("w"))
+            self.comes_to(other, Record(seen), ("c", "y"), answer)
 
     def test_several_open_targets(self):
         project = Project({"a": Made("r"), "b": Made("s"), "c": Made("s", ("1",)), "d": Made("s"), "e": Made(("c", "y"))})

@@ -176,6 +176,7 @@ class RestoredTest(HalfDoneTest):
                     break
                 answers = tuple(chance.choice(TEXTS + [None]) for _ in step[1]) if step[0] == "read" else ()
                 copy = run.copied()
+                self.assertEqual(copy.saved(), saved)
                 for one in [copy, back, run]:
                     one(answers)
                 self.assertEqual((copy.saved(), copy.trail), (run.saved(), run.trail))

@@ -227,16 +227,15 @@ class NamesTest(unittest.TestCase):
         self.assertEqual(properties & (methods - functions), set())
         stored = {node.attr for _, node in nodes(ast.Attribute) if isinstance(node.ctx, ast.Store)}
         self.assertEqual(stored & generators, set())
+        self.assertEqual((methods | properties) & {"items", "keys", "values"}, set())
         for name in ["add", "discard"]:
             self.assertNotIn(name, [node.func.attr for _, node in nodes(ast.Call)
                                     if isinstance(node.func, ast.Attribute)])
 
-    def test_a_class_does_not_call_a_method_as_it_calls_an_attribute(self):
-        for where, node in nodes(ast.ClassDef):
-            methods = {part.name for part in node.body if isinstance(part, ast.FunctionDef)}
-            stored = {part.attr for part in ast.walk(node) if isinstance(part, ast.Attribute)
-                      and isinstance(part.ctx, ast.Store)}
-            self.assertEqual(methods & stored, set(), where)
+    def test_no_name_is_a_method_and_an_attribute(self):
+        stored = {node.attr for _, node in nodes(ast.Attribute) if isinstance(node.ctx, ast.Store)}
+        methods = {part.name for _, node in nodes(ast.ClassDef) for part in node.body if isinstance(part, ast.FunctionDef)}
+        self.assertEqual(methods & stored, set())
 
     def setters(self, node):
         return len([part for part in node.body if isinstance(part, ast.FunctionDef)

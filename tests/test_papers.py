@@ -156,6 +156,13 @@ class HoldsTest(PaperCase):
         self.holds(spot, self.rows[:3] + self.others, False)
         self.holds(spot, self.rows[:3] + self.others + [(spot, ("read", (("m", "x"),)))], False)
 
+    def test_the_key_is_not_settled_by_the_record(self):
+        spot = at("r", ("1",), count=1)
+        for rows in [self.rows[:3], self.rows[:2], []]:
+            self.holds(spot, self.rows[:3] + [(spot, put("x", "other"))], False, record=Record(rows))
+        rows = self.rows[:2] + [(at("r", ("1",)), put("x", "other"))]
+        self.holds(at("r", ("1",)), rows, False, record=Record(self.rows[:3]))
+
     def test_a_thinned_counter_record(self):
         spot = at("r", ("1",), count=1)
         for rows in [self.rows[:3], self.rows[:3] + self.others[:1]]:

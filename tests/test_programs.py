@@ -82,7 +82,7 @@ class TokensTest(ProgramTest):
             self.bad_line(1, "recipe", f"let b = {number}")
 
     def test_quoted_texts(self):
-        for text in ["", " ", "a", "  a  ", "'", "\\", "recipe", "#~!@$^&*()", "a" * 400]:
+        for text in ["", " ", "a", "  a  ", "'", "\\", "#~!@$^&*()", "a" * 400, *WORDS]:
             self.expression(f'"{text}"', f'"{text}"')
         self.bad_line(1, "recipe", f'let b = "{"a" * 401}"')
         for text in ['"', '"abc', '"a" "', '"a""', 'a"', '""b"']:
@@ -282,6 +282,15 @@ class PlacesTest(ProgramTest):
     def test_depth_side_by_side(self):
         deep = "(" * 30 + "1" + ")" * 30
         self.good("recipe", f"let a = {deep} + {deep} * {deep}", f"if {deep} = {deep} and not 1 = {deep[1:-1]}", "end")
+
+    def test_depth_behind_what_is_closed(self):
+        rows = ["recipe", "define f () gives number", "end"]
+        for one in ["(1)", "-1", "f()", 'size("")', "size([])", "--1"]:
+            self.good(*rows, "let a = " + " + ".join([one] * 40))
+            self.good(*rows, f"let a = {one} + {'(' * 30}1{')' * 30}")
+            self.bad_line(3, *rows, f"let a = {one} + {'(' * 31}1{')' * 31}")
+            self.bad_line(3, *rows, f"if {one} = 1 and not {one} = {'(' * 31}1{')' * 31}", "end")
+        self.good(*rows, "let a = " + " & ".join(["[]"] * 40))
 
     def test_depth_of_not(self):
         self.good("recipe", "if " + "not " * 30 + "1 = 1", "end")

@@ -170,6 +170,14 @@ class RecipeKeyTest(WalkTest):
         self.needs(("m", "x"), rows)
 
 
+    def test_names_that_are_somewhat_too_long(self):
+        rows = [(at("r"), put("x")), (at("longername"), put("longoutput", "r"))]
+        self.begin({"m": Made(("longertarget", "longoutput")), "longertarget": Made("longername")}, rows)
+        self.check(("m", "x"), "settled", "1")
+        self.demands(("m", "x"), ("longertarget", "longoutput"), ("m", "x"))
+        self.needs(("m", "x"), rows)
+
+
 class StuckTest(WalkTest):
 
     def test_a_ring_of_one_key(self):
