@@ -4,13 +4,15 @@ import itertools
 import random
 import unittest
 
+from farenough.engine import Engine
 from farenough.errors import BuildError, Halted
 from farenough.machines import Machine, ProgramRecipe, compiled
 from farenough.programs import Program
+from farenough.projects import Made, Project, Source
 from farenough.recipes import Recipe, TreeRecipe
 from farenough.workshops import Workshop
 from plainrows import PlainMachine
-from samples import STOP, read
+from samples import STOP, read, write
 from scripts import TEXTS, Script
 
 A, B = ("src", "a"), ("src", "b")
@@ -364,6 +366,19 @@ class RecipeTest(MachineTest):
         before = run.trail
         self.assertRaises(Halted, run)
         self.assertEqual(run.trail, before)
+
+    def test_an_engine(self):
+        """The same answers, steps and replays as with the tree that does the same."""
+        program = Program.read('recipe a\nread x from "src" . "a"\nwrite "v" = a\nif known x\n  write "x" = x else ""\nend')
+        tree = TreeRecipe(read((A,), (((None,), write("v", ((0, 0),))),), write("v", ((0, 0),), write("x", ((1, 0),)))))
+        one, other = Engine(Workshop({"r": ProgramRecipe(program)})), Engine(Workshop({"r": tree}))
+        project = Project({"src": Source({"a": "1"}), "m": Made("r", ("v",)), "n": Made("r")})
+        for changed in [project, project.write("src", "a", "2"), project.erase("src", "a"), project]:
+            for key in [("m", "v"), ("n", "x"), ("m", "x"), ("m", "z")]:
+                self.assertEqual(one.ask(changed, key), other.ask(changed, key))
+                self.assertEqual((one.news, one.replays, len(one)), (other.news, other.replays, len(other)))
+            self.assertEqual(one.record, other.record)
+        self.assertGreater(one.replays, 0)
 
     def test_equal(self):
         self.assertIs(self.recipe == ProgramRecipe(Program.read("\n" + self.TEXT)), True)
