@@ -101,7 +101,7 @@ class Machine:
         if word == "push":
             self._stack.append(row[1])
         elif word == "load":
-            self._stack.append(self._frames[-1][0][row[1]])
+            self._stack.append(within_bounds(self._frames[-1][0][row[1]]))
         elif word == "store":
             self._frames[-1][0][row[1]] = self._stack.pop()
         elif word == "op":

@@ -335,6 +335,15 @@ class FaultTest(DoingTest):
             else:
                 self.stops(f"let a = {value}")
 
+    def test_long_arguments(self):
+        for many, good in [(400, True), (401, False)]:
+            for line in ["let a = t", "let a = size(t)", "if t = u", "let a = [t]"]:
+                if good:
+                    self.goes_on(line, arguments=("a" * many,))
+                else:
+                    self.stops(line, arguments=("a" * many,))
+            self.goes_on("let a = u", arguments=("a" * many,))
+
     def test_long_lists(self):
         sixty, one = "[" + ", ".join(['""'] * 60) + "]", '[""]'
         for value, good in [(sixty, True), (f"{sixty} & []", True), (f"{sixty} & {one}", False), (f"sorted({sixty})", True),
