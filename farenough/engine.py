@@ -13,7 +13,8 @@ class Engine:
         self._known = {}
         self._news = []
         if record is not None:
-            for place, step in record.steps():
+            rows = list(record.steps())
+            for place, step in rows:
                 self._known[place] = step
 
     def ask(self, project, key):

@@ -9,7 +9,8 @@ from farenough.walkers import Walker
 def extended_to(project, record, key, answer):
     """A record that contains this one, and along which a key that is open here is settled as this answer."""
     known = {}
-    for place, step in record.steps():
+    rows = list(record.steps())
+    for place, step in rows:
         known[place] = step
     walker = Walker(project, known)
     # A run that is given a text that was nowhere before is open then: it waits for nothing more, and it does not come

@@ -4,7 +4,7 @@ from farenough.steps import LONGEST_TEXT
 from farenough.tokens import writes_number
 
 LONGEST_LIST = 60
-GREATEST_NUMBER = 10 ** 12
+GREATEST_NUMBER = 1_000_000_000_000
 
 # For each name the kinds that its operands may have, and the kind of the result.
 OPERATIONS = {

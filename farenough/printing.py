@@ -4,8 +4,8 @@ from farenough.lines import LEVELS
 from farenough.operations import taken
 from farenough.outlines import BLOCKS
 
-# The level of what is never put in parentheses.
-_UNIT = len(LEVELS)
+# The level of what is never put in parentheses: it is behind the last one of LEVELS.
+_UNIT = 3
 
 
 def text_of(lines):

@@ -80,7 +80,8 @@ class Record:
 
 def _table_of(pairs):
     """The dict of these pairs, if they make a record."""
-    table, clashing = {}, []
+    table = {}
+    clashing = []
     for place, step in pairs:
         if place not in table:
             table[place] = step

@@ -2,6 +2,7 @@
 
 import ast
 import builtins
+import functools
 import io
 import pathlib
 import re
@@ -54,6 +55,7 @@ def files():
     return sorted(PACKAGE.rglob("*.py"))
 
 
+@functools.cache
 def trees():
     return [(path, ast.parse(path.read_text("ascii"))) for path in files()]
 
@@ -240,6 +242,168 @@ class NamesTest(unittest.TestCase):
     def setters(self, node):
         return len([part for part in node.body if isinstance(part, ast.FunctionDef)
                     and any(ast.unparse(decorator).endswith(".setter") for decorator in part.decorator_list)])
+
+
+def functions():
+    """All functions and methods of the package: pairs of a place in the files and the node."""
+    return nodes(ast.FunctionDef)
+
+
+def generators():
+    return {node.name for _, node in functions()
+            if any(isinstance(part, (ast.Yield, ast.YieldFrom)) for part in ast.walk(node))}
+
+
+def is_property(node):
+    return "property" in [ast.unparse(decorator) for decorator in node.decorator_list]
+
+
+def called_in(node):
+    """The names of what is called in a node, by a bare name or as a method."""
+    for part in ast.walk(node):
+        if isinstance(part, ast.Call):
+            yield part.func.id if isinstance(part.func, ast.Name) else part.func.attr
+
+
+class PlainValuesTest(unittest.TestCase):
+    """L3: a name at module level is assigned a plain value once."""
+
+    def is_plain(self, value, above):
+        if isinstance(value, ast.Constant):
+            return value.value is None or isinstance(value.value, (int, str, bytes))
+        if isinstance(value, ast.UnaryOp):
+            return isinstance(value.op, ast.USub) and isinstance(value.operand, ast.Constant)
+        if isinstance(value, (ast.Tuple, ast.List)):
+            return all(self.is_plain(item, above) for item in value.elts)
+        if isinstance(value, ast.Dict):
+            return all(self.is_plain(item, above) for item in [*value.keys, *value.values])
+        return isinstance(value, ast.Name) and value.id in above
+
+    def check(self, tree, path=None):
+        above, taken = set(), set()
+        for node in tree.body:
+            if isinstance(node, ast.FunctionDef):
+                above.add(node.name)
+            if isinstance(node, (ast.Assign, ast.AnnAssign, ast.AugAssign)):
+                self.assertIsInstance(node, ast.Assign, path)
+                self.assertEqual(len(node.targets), 1, path)
+                target = node.targets[0]
+                self.assertIsInstance(target, ast.Name, path)
+                self.assertNotIn(target.id, taken, path)
+                taken.add(target.id)
+                self.assertTrue(self.is_plain(node.value, above), f"{path}:{node.lineno}")
+
+    def test_all_files(self):
+        for path, tree in trees():
+            self.check(tree, path)
+
+    def test_what_is_not_plain(self):
+        for row in ["A = len('x')", "A = 2 ** 4", "A, B = 1, 2", "A = B = 1", "A = [k for k in (1, 2)]", "A = 1\nA = 2",
+                    "A = {'x': later}", "A = (len,)", "A = 1\nB = A"]:
+            with self.assertRaises(AssertionError, msg=row):
+                self.check(ast.parse(row))
+        self.check(ast.parse("def f():\n    pass\nA = {'x': f, 'y': (1, -2, None)}\nB = [True, b'x']"))
+
+
+class GeneratorsTest(unittest.TestCase):
+    """L23: what a generator goes over is not changed by the loop that walks it."""
+
+    def heads(self, tree, names):
+        """The rows of a loop in whose head a generator is called; its list is to be taken in a row of its own."""
+        return [node.lineno for node in ast.walk(tree)
+                if isinstance(node, ast.For) and names & set(called_in(node.iter))]
+
+    def test_no_loop_walks_a_generator(self):
+        for path, tree in trees():
+            self.assertEqual(self.heads(tree, generators()), [], path)
+
+    def test_comprehensions_over_generators_change_nothing(self):
+        for where, node in nodes((ast.ListComp, ast.DictComp)):
+            if any(generators() & set(called_in(part.iter)) for part in node.generators):
+                self.assertLessEqual(set(called_in(node)), generators() | {"list"}, where)
+
+    def test_what_is_found(self):
+        self.assertIn("steps", generators())
+        for head in ["record.steps()", "list(self.steps())", "enumerate(record.steps())"]:
+            self.assertEqual(self.heads(ast.parse(f"for k in {head}:\n    pass"), {"steps"}), [1])
+        self.assertEqual(self.heads(ast.parse("rows = list(a.steps())\nfor k in rows:\n    pass"), {"steps"}), [])
+
+
+class PureTest(unittest.TestCase):
+    """L5 and L28: operators, properties and their like change nothing and call nothing that they are passed or hold."""
+
+    MODIFY = set("append clear extend insert pop remove reverse setdefault update sort add discard".split())
+    KINDS = {"list", "dict", "sorted"}
+
+    def reached(self):
+        """What operators, properties and their like call, and what this calls."""
+        table = {}
+        for where, node in functions():
+            table.setdefault(node.name, []).append((where, node))
+        for where, node in nodes(ast.ClassDef):
+            inits = [part for part in node.body if isinstance(part, ast.FunctionDef) and part.name == "__init__"]
+            table.setdefault(node.name, []).extend((where, part) for part in inits)
+        apart = ("__init__", "__call__", "__setitem__", "__enter__", "__exit__", "__iter__")
+        names = [node.name for _, node in functions()
+                 if is_property(node) or node.name in DOUBLE_UNDERSCORE and node.name not in apart]
+        done = set()
+        while names:
+            name = names.pop()
+            if name not in done:
+                done.add(name)
+                names.extend(other for _, node in table.get(name, []) for other in called_in(node))
+        return [pair for name in sorted(done) for pair in table.get(name, [])]
+
+    def own(self, node):
+        """The local lists and dicts that a function creates, each in a row of its own."""
+        own, others = set(), set()
+        for part in ast.walk(node):
+            if isinstance(part, ast.Assign) and len(part.targets) == 1 and isinstance(part.targets[0], ast.Name):
+                literal = isinstance(part.value, (ast.List, ast.Dict, ast.ListComp))
+                called = isinstance(part.value, ast.Call) and ast.unparse(part.value.func) in self.KINDS
+                (own if literal or called else others).add(part.targets[0].id)
+            elif isinstance(part, ast.Name) and isinstance(part.ctx, ast.Store):
+                others.add(part.id)
+        # The same names are seen again as parts of their assignments; those do not count.
+        assigned = [part.id for part in ast.walk(node) if isinstance(part, ast.Name) and isinstance(part.ctx, ast.Store)]
+        plain = [part.targets[0].id for part in ast.walk(node)
+                 if isinstance(part, ast.Assign) and len(part.targets) == 1 and isinstance(part.targets[0], ast.Name)]
+        return {name for name in own if assigned.count(name) == plain.count(name)}
+
+    def faults(self, node):
+        own = self.own(node)
+        parameters = {part.arg for part in ast.walk(node) if isinstance(part, ast.arg)}
+        for part in ast.walk(node):
+            if isinstance(part, ast.Attribute) and not isinstance(part.ctx, ast.Load) and node.name != "__init__":
+                yield part.lineno
+            if isinstance(part, ast.Subscript) and not isinstance(part.ctx, ast.Load):
+                if ast.unparse(part.value) not in own:
+                    yield part.lineno
+            if isinstance(part, ast.AugAssign) and not isinstance(part.value, ast.Constant):
+                yield part.lineno
+            if isinstance(part, ast.Call) and isinstance(part.func, ast.Attribute) and part.func.attr in self.MODIFY:
+                if ast.unparse(part.func.value) not in own:
+                    yield part.lineno
+            if isinstance(part, ast.Call) and isinstance(part.func, ast.Name) and part.func.id in parameters:
+                yield part.lineno
+            if isinstance(part, ast.Call) and isinstance(part.func, ast.Attribute) and part.func.attr in CALLED:
+                yield part.lineno
+
+    def test_all_that_is_reached(self):
+        names = []
+        for where, node in self.reached():
+            names.append(node.name)
+            self.assertEqual(list(self.faults(node)), [], f"{where} {node.name}")
+        self.assertLessEqual({"__or__", "record", "__len__", "in_order"}, set(names))
+
+    def test_what_is_found(self):
+        for row in ["a, b = {}, []\n b.append(1)", "a = b = []\n b.append(1)", "x.append(1)", "x[0] = 1", "x.y = 1",
+                    "x(1)", "del x[0]", "a = {k: 1 for k in x}\n a[1] = 1\n a = x", "y = 1\n y += x", "self._course(x)"]:
+            node = ast.parse(f"def f(self, x):\n {row}").body[0]
+            self.assertTrue(list(self.faults(node)), row)
+        for row in ["a = {}\n a[1] = x", "b = []\n b.append(x)", "b = sorted(x)\n b.append(1)", "k = 0\n k += 1"]:
+            node = ast.parse(f"def f(self, x):\n {row}").body[0]
+            self.assertEqual(list(self.faults(node)), [], row)
 
 
 if __name__ == "__main__":
