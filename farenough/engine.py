@@ -10,16 +10,14 @@ class Engine:
 
     def __init__(self, workshop, *, record=None):
         self._crew = Crew(workshop)
-        self._known = {}
+        self._seen = Record() if record is None else record
+        # All steps that were seen; behind each ask the record has them, too.
+        self._known = {**self._seen.table()}
         self._news = []
-        if record is not None:
-            rows = list(record.steps())
-            for place, step in rows:
-                self._known[place] = step
 
     def ask(self, project, key):
         """The answer of a key, after all steps that it needs were taken."""
-        walker = Walker(project, self._known)
+        walker = Walker(project, self._known, [key])
         self._take_all(walker, [key])
         return walker.settled_answer(key)
 
@@ -29,14 +27,16 @@ class Engine:
 
     def pursue(self, project, keys):
         """Takes all steps that these keys need; a tuple of the new ones, each with its place."""
-        return tuple(self._take_all(Walker(project, self._known), keys))
+        return tuple(self._take_all(Walker(project, self._known, keys), keys))
 
     def steps(self, project, key):
         """Yields each new step that a key needs, with its place, right after it was taken."""
-        walker = Walker(project, self._known)
+        walker = Walker(project, self._known, [key])
         places = walker.open_places([key])
         while places:
-            yield self._take(places[0])
+            pair = self._take(places[0])
+            self._keep_record()
+            yield pair
             walker.go_on()
             places = walker.open_places([key])
 
@@ -47,6 +47,8 @@ class Engine:
             taken.append(self._take(places[0]))
             walker.go_on()
             places = walker.open_places(keys)
+        if taken:
+            self._keep_record()
         return taken
 
     def _take(self, place):
@@ -55,10 +57,13 @@ class Engine:
         self._news.append((place, step))
         return place, step
 
+    def _keep_record(self):
+        self._seen = Record({**self._known})
+
     @property
     def record(self):
         """The record of all steps that were seen."""
-        return Record({place: self._known[place] for place in self._known})
+        return self._seen
 
     @property
     def news(self):

@@ -8,11 +8,8 @@ from farenough.walkers import Walker
 
 def extended_to(project, record, key, answer):
     """A record that contains this one, and along which a key that is open here is settled as this answer."""
-    known = {}
-    rows = list(record.steps())
-    for place, step in rows:
-        known[place] = step
-    walker = Walker(project, known)
+    known = {**record.table()}
+    walker = Walker(project, known, [key])
     # A run that is given a text that was nowhere before is open then: it waits for nothing more, and it does not come
     # to places that were added here for other runs.
     taken = _texts_in(project, known)

@@ -13,7 +13,7 @@ def future(project, record, key):
     if state == "settled":
         return Sure(told)
     if state == "stuck":
-        return Never(Walker(project, record).way_from(key))
+        return Never(Walker(project, record.table(), [key]).way_from(key))
     return Open(told)
 
 
@@ -52,7 +52,7 @@ class Never(Future):
         """Whether each key on the way waits for the next one along the record."""
         if not isinstance(self.way, tuple) or len(self.way) < 2 or self.way[0] != key:
             return False
-        walker = Walker(project, record)
+        walker = Walker(project, record.table(), [key])
         for at, following in enumerate(self.way[1:]):
             # The item ahead is a key: it is the one that is asked for, or one that another key waits for.
             item = self.way[at]

@@ -7,7 +7,7 @@ from farenough.walkers import Walker
 
 def paper(project, record, key, place):
     """A paper which shows that the step at this place cannot be left out."""
-    walker = Walker(project, record)
+    walker = Walker(project, record.table(), [key])
     if not walker.is_settled(key):
         raise NotSettled(key)
     if place not in walker.needed_by([key]):
@@ -39,10 +39,10 @@ class Paper:
 
     def holds(self, project, record, key):
         """Whether the paper shows this of a record, a project and a key."""
-        walker = Walker(project, record)
+        walker = Walker(project, record.table(), [key])
         if not walker.is_settled(key) or self._place not in record:
             return False
         if not record.without(self._place).is_within(self._counter):
             return False
-        counter = Walker(project, self._counter)
+        counter = Walker(project, self._counter.table(), [key])
         return counter.is_settled(key) and counter.answer_of(key) != walker.answer_of(key)

@@ -1,7 +1,7 @@
 """Records: the steps that were seen, each at its place."""
 
 from farenough.errors import Clash, Gap, NoPlace, Rewritten
-from farenough.steps import in_order, is_behind
+from farenough.steps import in_order, is_behind, ordered
 
 
 class Record:
@@ -31,25 +31,29 @@ class Record:
     def __iter__(self):
         raise TypeError("a record is not iterated over")
 
+    def table(self):
+        """The dict of the steps by their places. It is only read."""
+        return self._steps
+
     def is_within(self, other):
         """Whether the other record has all places of this one, with the same steps."""
-        return all([place in other._steps and other._steps[place] == self._steps[place] for place in self._steps])
+        if len(self._steps) > len(other._steps):
+            return False
+        return all([other._steps.get(place) == self._steps[place] for place in self._steps])
 
     def __or__(self, other):
-        differing = [place for place in self._steps
-                     if place in other._steps and other._steps[place] != self._steps[place]]
+        less, more = self._steps, other._steps
+        if len(less) > len(more):
+            less, more = more, less
+        differing = [place for place in less if place in more and less[place] != more[place]]
         if differing:
-            raise Clash(in_order(differing)[0])
-        joined = {}
-        for steps in (self._steps, other._steps):
-            for place in steps:
-                joined[place] = steps[place]
-        return Record(joined)
+            raise Clash(ordered(differing)[0])
+        return Record({**more, **less})
 
     def __and__(self, other):
         reads = _reads_in(self._steps)
         common = {}
-        for place in in_order(list(self._steps)):
+        for place in ordered(list(self._steps)):
             if place in other._steps and other._steps[place] == self._steps[place]:
                 if _is_first(place) or _place_ahead(place, reads) in common:
                     common[place] = self._steps[place]
@@ -68,14 +72,14 @@ class Record:
 
     def steps(self):
         """Yields all pairs of a place and its step, places in order."""
-        for place in in_order(list(self._steps)):
+        for place in ordered(list(self._steps)):
             yield place, self._steps[place]
 
     def ends(self):
         """A new list of the places behind which the record has none, in order."""
         reads = _reads_in(self._steps)
         passed = {_place_ahead(place, reads): True for place in self._steps if not _is_first(place)}
-        return in_order([place for place in self._steps if place not in passed])
+        return ordered([place for place in self._steps if place not in passed])
 
 
 def _table_of(pairs):
@@ -98,15 +102,28 @@ def _check_ways(table):
     reads = _reads_in(table)
     # The outputs that are written on the way to a place, and there.
     written = {}
-    for place in in_order(list(table)):
-        if not _is_led_to(place, table, reads):
-            raise Gap(place)
-        written[place] = () if _is_first(place) else written[_place_ahead(place, reads)]
+    faults = []
+    # The places ahead of one have fewer answers, or as many and a smaller count.
+    for place in sorted(table, key=_length):
+        ahead = None if _is_first(place) else _place_ahead(place, reads)
+        written[place] = written.get(ahead, ())
         step = table[place]
-        if step[0] == "write":
+        if not _is_first(place) and not _leads_to(table.get(ahead), place):
+            faults.append(place)
+        elif step[0] == "write":
             if step[1] in written[place]:
-                raise Rewritten(place)
+                faults.append(place)
             written[place] = (*written[place], step[1])
+    if faults:
+        first = ordered(faults)[0]
+        if not _is_first(first) and not _leads_to(table.get(_place_ahead(first, reads)), first):
+            raise Gap(first)
+        raise Rewritten(first)
+
+
+def _length(place):
+    _, _, answers, count = place
+    return len(answers), count
 
 
 def _reads_in(table):
@@ -132,14 +149,11 @@ def _place_ahead(place, reads):
     return reads.get((recipe, arguments, answers[:-1]))
 
 
-def _is_led_to(place, table, reads):
-    """Whether the step right ahead leads to the place."""
-    if _is_first(place):
-        return True
-    ahead = _place_ahead(place, reads)
-    if ahead not in table:
-        return False
+def _leads_to(step, place):
+    """Whether a step right ahead of the place, or None, leads to it."""
     _, _, answers, count = place
+    if step is None:
+        return False
     if count > 0:
-        return table[ahead][0] == "write"
-    return len(table[ahead][1]) == len(answers[-1])
+        return step[0] == "write"
+    return step[0] == "read" and len(step[1]) == len(answers[-1])

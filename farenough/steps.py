@@ -104,8 +104,15 @@ def is_behind(place, other):
 
 def in_order(places):
     """A new list of the places in order, each once."""
-    different = {place: True for place in places}
-    return sorted(different, key=_rank)
+    return ordered(list(places) if len(places) < 2 else list({place: True for place in places}))
+
+
+def ordered(places):
+    """A new list of different places in order."""
+    # Where None is nowhere among the answers, Python compares the places themselves just so.
+    if any([None in row for _, _, answers, _ in places for row in answers]):
+        return sorted(places, key=_rank)
+    return sorted(places)
 
 
 def _rank(place):
@@ -114,5 +121,5 @@ def _rank(place):
 
 
 def _rank_of_answers(answers):
-    # An empty tuple comes before every other one, as None comes before every text.
-    return tuple([() if answer is None else (answer,) for answer in answers])
+    # The empty string comes before every other one, as None comes before every text.
+    return tuple(["" if answer is None else "." + answer for answer in answers])

@@ -74,6 +74,39 @@ class SourceTest(WalkTest):
         self.needs(("m", "x"), rows)
 
 
+class Watched(Project):
+    """A project that notes which targets are looked at."""
+
+    def __init__(self, targets):
+        super().__init__(targets)
+        self.seen = []
+
+    def __getitem__(self, name):
+        self.seen.append(name)
+        return super().__getitem__(name)
+
+
+class DemandedTest(unittest.TestCase):
+
+    def test_only_what_is_demanded_is_looked_at(self):
+        targets = {f"t{number}": Made(f"r{number}") for number in range(60)}
+        rows = [(at(f"r{number}"), put("x")) for number in range(2, 60)]
+        rows += [(at("r1"), reads(("t7", "x"))), (at("r1", ("1",)), put("x"))]
+        record = Record(rows)
+        for asked in (walk, demand, need, lambda project, record, key: open_places(project, record, [key])):
+            project = Watched(targets)
+            asked(project, record, ("t1", "x"))
+            self.assertEqual(sorted(project.seen), ["t1", "t7"])
+
+    def test_a_run_is_led_only_as_far_as_it_is_demanded(self):
+        record = Record([(at("r"), put("x")), (at("r", count=1), reads(("u", "x"))), (at("u"), put("x"))])
+        project = Watched({"t": Made("r"), "u": Made("u")})
+        self.assertEqual(walk(project, record, ("t", "x")), ("settled", "1"))
+        self.assertEqual(project.seen, ["t"])
+        self.assertEqual(walk(project, record, ("t", "y")), ("open", (at("r", ("1",)),)))
+        self.assertEqual(need(project, record, ("t", "y")), record)
+
+
 class SettledTest(WalkTest):
 
     def setUp(self):
