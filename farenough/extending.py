@@ -12,7 +12,7 @@ def extended_to(project, record, key, answer):
     walker = Walker(project, known, [key])
     # A run that is given a text that was nowhere before is open then: it waits for nothing more, and it does not come
     # to places that were added here for other runs.
-    taken = _texts_in(project, known)
+    taken = texts_in(project, known)
     other = _first_to_settle(walker, key)
     while other != key:
         known[walker.open_place_of(other[0])] = ("write", other[1], _fresh_text(taken))
@@ -29,7 +29,7 @@ def _first_to_settle(walker, key):
     return key
 
 
-def _texts_in(project, known):
+def texts_in(project, known):
     """A new dict of the texts that are answers or names of recipes, or may become so."""
     taken = {}
     for (recipe, _, answers, _), step in known.items():

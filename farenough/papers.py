@@ -1,15 +1,13 @@
 """Papers: they show that a step could not be left out."""
 
-from farenough.errors import NotNeeded, NotSettled
+from farenough.errors import NotNeeded
 from farenough.extending import extended_to
-from farenough.walkers import Walker
+from farenough.walkers import Walker, settling_walker
 
 
 def paper(project, record, key, place):
     """A paper which shows that the step at this place cannot be left out."""
-    walker = Walker(project, record.table(), [key])
-    if not walker.is_settled(key):
-        raise NotSettled(key)
+    walker = settling_walker(project, record, key)
     if place not in walker.needed_by([key]):
         raise NotNeeded(place)
     # Without the step the key is open, so it may be settled as anything.

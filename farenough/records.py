@@ -51,11 +51,11 @@ class Record:
         return Record({**more, **less})
 
     def __and__(self, other):
-        reads = _reads_in(self._steps)
+        reads = reads_in(self._steps)
         common = {}
         for place in ordered(list(self._steps)):
             if place in other._steps and other._steps[place] == self._steps[place]:
-                if _is_first(place) or _place_ahead(place, reads) in common:
+                if is_first(place) or place_ahead(place, reads) in common:
                     common[place] = self._steps[place]
         return Record(common)
 
@@ -77,8 +77,8 @@ class Record:
 
     def ends(self):
         """A new list of the places behind which the record has none, in order."""
-        reads = _reads_in(self._steps)
-        passed = {_place_ahead(place, reads): True for place in self._steps if not _is_first(place)}
+        reads = reads_in(self._steps)
+        passed = {place_ahead(place, reads): True for place in self._steps if not is_first(place)}
         return ordered([place for place in self._steps if place not in passed])
 
 
@@ -99,16 +99,15 @@ def _table_of(pairs):
 
 def _check_ways(table):
     """Raises Gap or Rewritten for the first place in order that cannot stand where it stands."""
-    reads = _reads_in(table)
+    reads = reads_in(table)
     # The outputs that are written on the way to a place, and there.
     written = {}
     faults = []
-    # The places ahead of one have fewer answers, or as many and a smaller count.
-    for place in sorted(table, key=_length):
-        ahead = None if _is_first(place) else _place_ahead(place, reads)
+    for place in in_growing_order(table):
+        ahead = None if is_first(place) else place_ahead(place, reads)
         written[place] = written.get(ahead, ())
         step = table[place]
-        if not _is_first(place) and not _leads_to(table.get(ahead), place):
+        if not is_first(place) and not _leads_to(table.get(ahead), place):
             faults.append(place)
         elif step[0] == "write":
             if step[1] in written[place]:
@@ -116,9 +115,15 @@ def _check_ways(table):
             written[place] = (*written[place], step[1])
     if faults:
         first = ordered(faults)[0]
-        if not _is_first(first) and not _leads_to(table.get(_place_ahead(first, reads)), first):
+        if not is_first(first) and not _leads_to(table.get(place_ahead(first, reads)), first):
             raise Gap(first)
         raise Rewritten(first)
+
+
+def in_growing_order(table):
+    """A new list of the places of a table, in which each stands behind those that are ahead of it."""
+    # The places ahead of one have fewer answers, or as many and a smaller count.
+    return sorted(table, key=_length)
 
 
 def _length(place):
@@ -126,12 +131,13 @@ def _length(place):
     return len(answers), count
 
 
-def _reads_in(table):
-    """The place of the read behind each row of answers (the first part of its place)."""
+def reads_in(table):
+    """A new dict: by the first part of each place, which tells its answers, the place of the read behind them."""
     return {place[:3]: place for place in table if table[place][0] == "read"}
 
 
-def _is_first(place):
+def is_first(place):
+    """Whether no place is ahead of this one."""
     _, _, answers, count = place
     return not answers and count == 0
 
@@ -141,7 +147,7 @@ def _first_of(place):
     return recipe, arguments, (), 0
 
 
-def _place_ahead(place, reads):
+def place_ahead(place, reads):
     """The place right ahead of one that is not the first; None if it would be a read that is not there."""
     recipe, arguments, answers, count = place
     if count > 0:

@@ -1,6 +1,6 @@
 """Walkers: the runs of a project, led as far as the known steps go. Meanings, walks and engines stand on this."""
 
-from farenough.errors import Stuck
+from farenough.errors import NotSettled, Stuck
 from farenough.projects import Made, Source
 from farenough.steps import after_read, after_write, in_order
 
@@ -160,6 +160,10 @@ class Walker:
         """A new dict of the texts of all keys of demanded targets that are settled as one."""
         return {(name, output): text for name, lead in self._leads.items() for output, text in lead.told.items()}
 
+    def is_made(self, name):
+        """Whether a demanded target is made."""
+        return self._leads[name].source is not None
+
     def place_of(self, name):
         """The place at which the run of a demanded target stands, or None if it has not begun."""
         return self._leads[name].here
@@ -263,3 +267,11 @@ class Walker:
         for name in outputs:
             needed.update(self._way_to(self._leads[name], outputs[name]))
         return needed
+
+
+def settling_walker(project, record, key):
+    """A walker that was asked for a key which the record settles; raises NotSettled."""
+    walker = Walker(project, record.table(), [key])
+    if not walker.is_settled(key):
+        raise NotSettled(key)
+    return walker

@@ -49,3 +49,26 @@ class World:
     def project(self):
         names = [name for name in self.TARGETS if self.chance.random() < 0.9]
         return Project({name: self.target() for name in names})
+
+
+class Layers(World):
+    """Worlds in which a target reads only what stands ahead of it: nearly no rings, and other reads for other answers."""
+
+    TARGETS, OUTPUTS, TEXTS = ["a", "b", "c", "d", "e", "f"], ["x", "y"], ["0", "1", "2"]
+    KEYS = list(itertools.product(TARGETS, OUTPUTS))
+
+    def key(self):
+        return self.chance.choice(self.ahead), self.chance.choice(self.OUTPUTS)
+
+    def workshop(self):
+        recipes = {}
+        for at, name in enumerate(self.TARGETS[1:], 1):
+            self.ahead = self.TARGETS[:at]
+            recipes[name] = TreeRecipe(read((self.key(),), tuple(
+                ((text,), self.node(4, self.OUTPUTS)) for text in self.TEXTS), self.node(3, self.OUTPUTS)))
+        self.ahead = self.TARGETS
+        return Workshop(recipes)
+
+    def project(self):
+        source = Source({output: self.chance.choice(self.TEXTS) for output in self.OUTPUTS})
+        return Project({"a": source, **{name: Made(name) for name in self.TARGETS[1:]}})
