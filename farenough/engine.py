@@ -40,6 +40,10 @@ class Engine:
             walker.go_on()
             places = walker.open_places([key])
 
+    def walker_for(self, project, key):
+        """A walker along the steps that are known; it may go on when more were taken."""
+        return Walker(project, self._known, [key])
+
     def _take_all(self, walker, keys):
         taken = []
         places = walker.open_places(keys)

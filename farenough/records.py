@@ -107,7 +107,7 @@ def _check_ways(table):
         ahead = None if is_first(place) else place_ahead(place, reads)
         written[place] = written.get(ahead, ())
         step = table[place]
-        if not is_first(place) and not _leads_to(table.get(ahead), place):
+        if not is_first(place) and not leads_to(table.get(ahead), place):
             faults.append(place)
         elif step[0] == "write":
             if step[1] in written[place]:
@@ -115,7 +115,7 @@ def _check_ways(table):
             written[place] = (*written[place], step[1])
     if faults:
         first = ordered(faults)[0]
-        if not is_first(first) and not _leads_to(table.get(place_ahead(first, reads)), first):
+        if not is_first(first) and not leads_to(table.get(place_ahead(first, reads)), first):
             raise Gap(first)
         raise Rewritten(first)
 
@@ -155,7 +155,7 @@ def place_ahead(place, reads):
     return reads.get((recipe, arguments, answers[:-1]))
 
 
-def _leads_to(step, place):
+def leads_to(step, place):
     """Whether a step right ahead of the place, or None, leads to it."""
     _, _, answers, count = place
     if step is None:

@@ -230,9 +230,14 @@ class NamesTest(unittest.TestCase):
         stored = {node.attr for _, node in nodes(ast.Attribute) if isinstance(node.ctx, ast.Store)}
         self.assertEqual(stored & generators, set())
         self.assertEqual((methods | properties) & {"items", "keys", "values"}, set())
-        for name in ["add", "discard"]:
-            self.assertNotIn(name, [node.func.attr for _, node in nodes(ast.Call)
-                                    if isinstance(node.func, ast.Attribute)])
+        self.assertNotIn("discard", [node.func.attr for _, node in nodes(ast.Call)
+                                     if isinstance(node.func, ast.Attribute)])
+
+    def test_no_set_is_stored_beside_an_own_add(self):
+        for where, node in nodes(ast.Assign):
+            self.assertNotIsInstance(node.value, (ast.Set, ast.SetComp), where)
+            if isinstance(node.value, ast.Call):
+                self.assertNotEqual(ast.unparse(node.value.func), "set", where)
 
     def test_no_name_is_a_method_and_an_attribute(self):
         stored = {node.attr for _, node in nodes(ast.Attribute) if isinstance(node.ctx, ast.Store)}

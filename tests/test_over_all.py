@@ -3,15 +3,24 @@
 import random
 import unittest
 
-from farenough.causes import causes
+from farenough.causes import causes, swayed, way_to
+from farenough.changes import change_between
 from farenough.engine import Engine
-from farenough.errors import Stuck
-from farenough.keeping import least
+from farenough.errors import Conflict, Stuck
+from farenough.futures import future
+from farenough.histories import History, turning
+from farenough.journals import Journal
+from farenough.keeping import keep, least, price
 from farenough.meaning import Meaning
 from farenough.projects import Made, Project, Source
+from farenough.recipes import TreeRecipe
 from farenough.records import Record
-from farenough.walks import walk
+from farenough.sessions import Session
+from farenough.walks import need, walk
 from farenough.workers import far_end, shift
+from farenough.workshops import Workshop
+from plain import Plain
+from samples import read, write
 from worlds import Layers, World
 
 
@@ -105,6 +114,156 @@ class OneRecordTest(unittest.TestCase):
                 else:
                     with self.assertRaises(Stuck):
                         told.answer(key)
+
+
+class JournalAndEngineTest(unittest.TestCase):
+
+    def test_asks_behind_a_cut_in_any_order(self):
+        for seed in range(120):
+            world, chance = (World if seed % 2 else Layers)(seed, [("q",)]), random.Random(seed)
+            workshop, projects = world.workshop(), [world.project() for _ in range(2)]
+            asks = [(chance.choice(projects), world.key()) for _ in range(6)]
+            engine, journal = Engine(workshop), Journal()
+            for project, key in asks[:3]:
+                for place, step in engine.steps(project, key):
+                    self.assertIs(journal.add(place, step), True)
+            journal = Journal(journal.text[:chance.randint(0, len(journal.text))])
+            session = Session(workshop, projects[0], record=journal.record)
+            other = Engine(workshop, record=journal.record)
+            seen = journal.record
+            for project, key in chance.sample(asks, 6):
+                change = change_between(session.project, project)
+                for name in change.names:
+                    if name in project:
+                        session.put(name, project[name])
+                    else:
+                        session.without(name)
+                self.same_answer(Meaning(project, workshop), key, session.ask, lambda key: other.ask(project, key))
+                seen = seen | need(project, session.record, key)
+                self.assertEqual(session.record, seen)
+                self.assertEqual(other.record, seen)
+                told = shift(project, workshop, journal.record, [key], workers=chance.randint(1, 12))
+                self.assertEqual(told.record, journal.record | need(project, seen, key))
+                self.same_answer(Meaning(project, workshop), key, told.answer)
+
+    def same_answer(self, meaning, key, *doors):
+        for door in doors:
+            if meaning.is_settled(key):
+                self.assertEqual(door(key), meaning.answer(key))
+            else:
+                with self.assertRaises(Stuck) as caught:
+                    door(key)
+                self.assertTrue(caught.exception.ring)
+
+
+class RingTest(unittest.TestCase):
+
+    def test_each_door_tells_a_ring(self):
+        one, two = ("p", "x"), ("q", "y")
+        workshop = Workshop({"one": TreeRecipe(read((two,))), "two": TreeRecipe(write("w", (), read((("k", "z"), one)))),
+                             "top": TreeRecipe(read((one, two, ("src", "a"))))})
+        project = Project({"p": Made("one"), "q": Made("two"), "t": Made("top"), "k": Made(("src", "a"))})
+        for key in [one, two, ("t", "x")]:
+            engine = Engine(workshop)
+            doors = [Meaning(project, workshop).answer, lambda key: engine.ask(project, key), lambda key: engine(project, key),
+                     shift(project, workshop, Record(), [key], workers=2).answer, Session(workshop, project).ask,
+                     lambda key: turning(engine, [project, project], key)]
+            for door in doors:
+                with self.assertRaises(Stuck) as caught:
+                    door(key)
+                self.assertIn(caught.exception.ring, [(one, two), (two, one)])
+            self.assertEqual(set(walk(project, engine.record, key)[1]), {one, two})
+            plain = Plain(project, dict(engine.record.steps()).get)
+            self.assertTrue(plain.is_ring(walk(project, engine.record, key)[1], key))
+            way = future(project, engine.record, key).way
+            self.assertEqual((way[0], len(set(way))), (key, len(way) - 1))
+
+
+class MergedTest(unittest.TestCase):
+
+    def test_merged_versions_are_asked(self):
+        for seed in range(60):
+            world, chance = Layers(seed), random.Random(seed)
+            workshop, project = world.workshop(), world.project()
+            history, engine = History(project), Engine(workshop)
+            for number in range(1, 12):
+                if number % 3:
+                    base = history[number - 1]
+                    change = base.write("a", chance.choice("xyz"), chance.choice("012")) if chance.random() < 0.6 else \
+                        base.put(chance.choice("def"), Made(chance.choice("bcd")))
+                    history.commit(chance.choice(range(number)), change)
+                else:
+                    try:
+                        history.merge(number - 1, number - 2)
+                    except Conflict as caught:
+                        self.assertTrue(caught.conflicts)
+                        history.commit(0, project)
+                key = world.key()
+                meaning = Meaning(history[number], workshop)
+                if meaning.is_settled(key):
+                    self.assertEqual(engine.ask(history[number], key), meaning.answer(key))
+                row = [history[version] for version in history.trunk(number)]
+                if len(row) > 1 and all(Meaning(each, workshop).is_settled(key) for each in row):
+                    at = turning(engine, row, key)
+                    answers = [Meaning(each, workshop).answer(key) for each in row]
+                    if at is None:
+                        self.assertEqual(answers[0], answers[-1])
+                    else:
+                        self.assertEqual((answers[at - 1], answers[at] != answers[0]), (answers[0], True))
+
+
+class LimitsTest(unittest.TestCase):
+
+    def test_twelve_targets_and_runs_of_sixty_steps(self):
+        recipes, targets = {}, {"t00": Source({"x": "v"})}
+        for number in range(1, 12):
+            node = write("x", ((1, 0), "."))
+            for _ in range(58):
+                node = read(((f"t{number - 1:02}", "x"),), (), node)
+            recipes[f"r{number}"] = TreeRecipe(node)
+            targets[f"t{number:02}"] = Made(f"r{number}")
+        workshop, project, key = Workshop(recipes), Project(targets), ("t11", "x")
+        engine = Engine(workshop)
+        self.assertEqual(engine.ask(project, key), "v" + "." * 11)
+        self.assertEqual((len(engine.record), engine.replays), (11 * 59, 0))
+        journal = Journal()
+        self.assertEqual(journal.keep(engine.record), 11 * 59)
+        self.assertEqual(Journal(journal.text).record, engine.record)
+        self.assertEqual(causes(project, engine.record, key), (("t00", "x"),))
+        self.assertEqual(len(way_to(project, engine.record, key, ("t00", "x"))), 12)
+        told = shift(project, workshop, Record(), [key], workers=12, guess=True)
+        self.assertEqual((told.record, told.answer(key)), (engine.record, "v" + "." * 11))
+        self.assertEqual(price(Record(), engine.record, [(project, key)]), (11 * 59, 0))
+        self.assertEqual(len(keep(engine.record, [(project, key)], 400)), 6 * 59)
+
+    def test_two_hundred_versions(self):
+        workshop = Workshop({"r": TreeRecipe(read((("s", "a"),), (), read((("s", "b"),), (), write("x", ((2, 0),)))))})
+        project = Project({"s": Source({"b": "0"}), "m": Made("r")})
+        history = History(project)
+        for number in range(1, 200):
+            project = project.write("s", "a", str(number)).write("s", "b", "1" if number > 123 else "0")
+            self.assertEqual(history.commit(number - 1, project), number)
+        row = [history[number] for number in history.trunk(199)]
+        engine = Engine(workshop)
+        self.assertEqual(turning(engine, row, ("m", "x")), 124)
+        self.assertLessEqual((len(engine.news) - 1) // 2, 2 + 8)
+        self.assertEqual(history.base(150, 199), 150)
+
+    def test_nodes_a_hundred_and_fifty_deep(self):
+        node = write("x", ((150, 0),))
+        for _ in range(150):
+            node = read((("s", "a"),), ((("no",), ("stop",)),), node)
+        workshop, project = Workshop({"r": TreeRecipe(node)}), Project({"s": Source({"a": "yes"}), "m": Made("r")})
+        engine, key = Engine(workshop), ("m", "x")
+        self.assertEqual(engine.ask(project, key), "yes")
+        self.assertEqual(len(engine.record), 151)
+        self.assertEqual(least(engine.record, [(project, key)]), engine.record)
+        self.assertEqual(Meaning(project, workshop).answer(key), "yes")
+        told = swayed(project, engine.record, key, ("s", "a"), "new")
+        self.assertEqual(walk(project.write("s", "a", "new"), told, key)[0], "settled")
+        journal = Journal()
+        journal.keep(engine.record)
+        self.assertEqual(Journal(journal.text).packed().record, engine.record)
 
 
 if __name__ == "__main__":
