@@ -20,6 +20,23 @@ class Spot:
         self.variables = variables
 
 
+class Code:
+    """What a program is compiled into. All values in its rows are within the bounds of expressions."""
+
+    def __init__(self, rows, spots):
+        self.rows = rows
+        # Where each step stands, behind the number of the row in which it is taken.
+        self.spots = spots
+
+    def spot_in(self, row):
+        """Where the step stands that is taken in the row of this number."""
+        return [spot for other, spot in self.spots if other == row][0]
+
+    def spot_of(self, number):
+        """Where the step stands that is taken in the line of this number."""
+        return [spot for _, spot in self.spots if spot.number == number][0]
+
+
 class Block:
     """A block of a program whose end was not reached yet."""
 
@@ -52,17 +69,9 @@ class Compiler:
             self._add_line(line, number)
         self._add("stop")
 
-    def rows(self):
-        """The tuple of all rows."""
-        return tuple(self._rows)
-
-    def spot_in(self, row):
-        """Where the step stands that is taken in the row of this number."""
-        return [spot for other, spot in self._spots if other == row][0]
-
-    def spot_of(self, number):
-        """Where the step stands that is taken in the line of this number."""
-        return [spot for _, spot in self._spots if spot.number == number][0]
+    def code(self):
+        """All rows, and where the steps stand."""
+        return Code(tuple(self._rows), tuple(self._spots))
 
     def _add(self, *row):
         """Adds a row; its number."""

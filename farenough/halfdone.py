@@ -1,7 +1,7 @@
 """Runs of programs, which can be put into writing half done."""
 
-from farenough.compiling import Compiler
-from farenough.machines import ProgramRecipe
+from farenough.machines import ProgramRecipe, machine_within
+from farenough.recipes import Recipe
 from farenough.runs import Run
 from farenough.wording import WordReader, line_of, word_of
 
@@ -10,17 +10,18 @@ class ProgramRun(Run):
     """A run of a program under a name."""
 
     def __init__(self, name, program, arguments=()):
-        super().__init__(name, ProgramRecipe(program), arguments)
+        # Without a program it stops at once; then its state is still to be set.
+        super().__init__(name, Recipe() if program is None else ProgramRecipe(program), arguments)
         self._program = program
-        self._compiler = Compiler(program.parsed())
 
     def copied(self):
         """An independent run at the same place, with the same trail."""
-        return super().copied()
+        run = super().copied()
+        run._program = self._program
+        return run
 
-    def _begun_again(self):
-        name, arguments, _, _ = self._place
-        return ProgramRun(name, self._program, arguments)
+    def _new_run(self):
+        return ProgramRun("", None)
 
     def saved(self):
         """A text from which the run can be restored."""
@@ -37,7 +38,7 @@ class ProgramRun(Run):
         return "\n".join(lines)
 
     def _lines_of_statement(self):
-        spot = self._compiler.spot_in(self._course.row_of_step())
+        spot = self._program.code().spot_in(self._course.row_of_step())
         lines = [f"at {spot.number} {self._course.turns_before()}"]
         for number, index, bound in spot.loops:
             lines.append(line_of("loop", [number, self._course.value_of(index), self._course.value_of(bound)]))
@@ -48,27 +49,28 @@ class ProgramRun(Run):
     @classmethod
     def restored(cls, program, saved):
         """A run that goes on as the saved one would."""
-        told = _told_by(saved)
-        name, *arguments = told["run"][0]
-        run = cls(name, program, tuple(arguments))
-        run._restore(told)
+        run = cls("", None)
+        run._restore(program, _told_by(saved))
         return run
 
-    def _restore(self, told):
-        """Goes to where a saved run stood."""
-        name, arguments, _, _ = self._place
-        self._place = (name, arguments, tuple([tuple(row) for row in told["answers"]]), told["count"][0][0])
-        row, turns, variables = len(self._compiler.rows()) - 1, 0, {}
+    def _restore(self, program, told):
+        """Goes to where a saved run of the program stood."""
+        code = program.code()
+        self._program = program
+        self._recipe = ProgramRecipe(program)
+        name, *arguments = told["run"][0]
+        self._place = (name, tuple(arguments), tuple([tuple(row) for row in told["answers"]]), told["count"][0][0])
+        row, turns, variables = len(code.rows) - 1, 0, {}
         if told["at"][0] != ["end"]:
             number, turns = map(int, told["at"][0])
-            spot = self._compiler.spot_of(number)
+            spot = code.spot_of(number)
             row = spot.first_row
             for (_, index, bound), (_, index_value, bound_value) in zip(spot.loops, told["loop"]):
                 variables[index] = index_value
                 variables[bound] = bound_value
             for (_, variable), value in zip(spot.variables, told["let"]):
                 variables[variable] = value
-        self._course.go_on_from(row, turns, told["written"][0], variables)
+        self._course = machine_within(code, row, turns, told["written"][0], variables)
         self._step = self._course.step
 
 

@@ -46,36 +46,65 @@ class Fault(Exception):
     """What makes a program stop in place of what it would do next."""
 
 
+def fits(value):
+    """Whether a value is not too great and not too long for an expression."""
+    if isinstance(value, str):
+        return len(value) <= LONGEST_TEXT
+    if isinstance(value, int):
+        return -GREATEST_NUMBER <= value <= GREATEST_NUMBER
+    return value is None or len(value) <= LONGEST_LIST
+
+
+def within_bounds(value):
+    """The value of an expression; raises Fault if it is too great or too long."""
+    if not fits(value):
+        raise Fault()
+    return value
+
+
 def _plus(left, right):
-    return left + right
+    number = left + right
+    if -GREATEST_NUMBER <= number <= GREATEST_NUMBER:
+        return number
+    raise Fault()
 
 
 def _minus(left, right):
-    return left - right
+    number = left - right
+    if -GREATEST_NUMBER <= number <= GREATEST_NUMBER:
+        return number
+    raise Fault()
 
 
 def _product(left, right):
-    return left * right
+    number = left * right
+    if -GREATEST_NUMBER <= number <= GREATEST_NUMBER:
+        return number
+    raise Fault()
 
 
 def _quotient(left, right):
     if right == 0:
         raise Fault()
-    return left // right
+    return within_bounds(left // right)
 
 
 def _remainder(left, right):
     if right == 0:
         raise Fault()
-    return left % right
+    return within_bounds(left % right)
+
+
+def _together(left, right):
+    return within_bounds(left + right)
 
 
 def _either(left, right):
-    return right if left is None else left
+    return within_bounds(right if left is None else left)
 
 
 def _negative(number):
-    return -number
+    return within_bounds(-number)
 
 
 def _size(value):
@@ -83,7 +112,7 @@ def _size(value):
 
 
 def _part(text, begin, end):
-    return text[max(begin, 0):max(end, 0)]
+    return within_bounds(text[max(begin, 0):max(end, 0)])
 
 
 def _place(text, other):
@@ -91,23 +120,23 @@ def _place(text, other):
 
 
 def _pieces(text, other):
-    return tuple(text.split(other)) if other else tuple(text)
+    return within_bounds(tuple(text.split(other)) if other else tuple(text))
 
 
 def _joined(texts, text):
-    return text.join(texts)
+    return within_bounds(text.join(texts))
 
 
 def _item(texts, number):
-    return texts[number] if 0 <= number < len(texts) else ""
+    return within_bounds(texts[number]) if 0 <= number < len(texts) else ""
 
 
 def _ascending(texts):
-    return tuple(sorted(texts))
+    return within_bounds(tuple(sorted(texts)))
 
 
 def _turned(texts):
-    return texts[::-1]
+    return within_bounds(texts[::-1])
 
 
 def _times(text, number):
@@ -163,14 +192,14 @@ def _is_not(truth):
     return not truth
 
 
-_ACTIONS = {
-    "+": _plus, "-": _minus, "*": _product, "/": _quotient, "mod": _remainder, "&": _plus, "else": _either,
-    "neg": _negative, "size": _size, "part": _part, "find": _place, "split": _pieces, "join": _joined, "item": _item,
-    "sorted": _ascending, "turned": _turned, "times": _times, "value": _value, "digits": _digits,
-}
-_DECISIONS = {
-    "=": _equals, "!=": _differs, "<": _is_below, "<=": _is_at_most, ">": _is_above, ">=": _is_at_least, "in": _is_in,
-    "known": _is_known, "not": _is_not,
+# For each operator, function and test how many operands it takes, and what it does. Actions raise Fault.
+ACTIONS = {
+    "+": (2, _plus), "-": (2, _minus), "*": (2, _product), "/": (2, _quotient), "mod": (2, _remainder),
+    "&": (2, _together), "else": (2, _either), "neg": (1, _negative), "size": (1, _size), "part": (3, _part),
+    "find": (2, _place), "split": (2, _pieces), "join": (2, _joined), "item": (2, _item), "sorted": (1, _ascending),
+    "turned": (1, _turned), "times": (2, _times), "value": (1, _value), "digits": (1, _digits),
+    "=": (2, _equals), "!=": (2, _differs), "<": (2, _is_below), "<=": (2, _is_at_most), ">": (2, _is_above),
+    ">=": (2, _is_at_least), "in": (2, _is_in), "known": (1, _is_known), "not": (1, _is_not),
 }
 
 
@@ -180,35 +209,3 @@ def taken(stack, many):
     values = stack[begin:]
     del stack[begin:]
     return values
-
-
-def operands_of(name):
-    """How many operands an operator, a function or a test takes."""
-    if name in OPERATIONS:
-        return len(OPERATIONS[name][0][0])
-    return len(TESTS[name][0]) if name in TESTS else 1
-
-
-def result_of(name, operands):
-    """The value of an operator or a function; raises Fault."""
-    action = _ACTIONS[name]
-    return within_bounds(action(*operands))
-
-
-def truth_of(name, operands):
-    """The truth of a test."""
-    decision = _DECISIONS[name]
-    return decision(*operands)
-
-
-def within_bounds(value):
-    """The value of an expression; raises Fault if it is too great or too long."""
-    if isinstance(value, int):
-        fits = -GREATEST_NUMBER <= value <= GREATEST_NUMBER
-    elif isinstance(value, str):
-        fits = len(value) <= LONGEST_TEXT
-    else:
-        fits = value is None or len(value) <= LONGEST_LIST
-    if not fits:
-        raise Fault()
-    return value

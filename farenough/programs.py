@@ -1,6 +1,7 @@
 """Programs: recipes in writing."""
 
 from farenough.checking import Checker
+from farenough.compiling import Compiler
 from farenough.lines import lines_of
 from farenough.printing import text_of
 
@@ -14,6 +15,7 @@ class Program:
         for line in self._lines:
             checker.check(line)
         self._text = text_of(self._lines)
+        self._code = Compiler(self._lines).code()
         self._arguments = tuple(self._lines[0].named("new"))
         self._functions = tuple([line.named("function")[0] for line in self._lines if line.word == "define"])
 
@@ -40,6 +42,6 @@ class Program:
         """The tuple of the names of its functions, in order."""
         return self._functions
 
-    def parsed(self):
-        """A new list of its lines, numbered as in the text."""
-        return list(self._lines)
+    def code(self):
+        """The code that does what the program does."""
+        return self._code

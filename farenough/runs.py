@@ -1,5 +1,6 @@
 """Runs of recipes, half done."""
 
+from farenough.recipes import Recipe
 from farenough.steps import after_read, after_write
 
 
@@ -39,14 +40,14 @@ class Run:
 
     def copied(self):
         """An independent run at the same place, with the same trail."""
-        run = self._begun_again()
+        run = self._new_run()
+        run._recipe = self._recipe
         run._course = self._course.copied()
         run._place = self._place
         run._step = self._step
         run._trail = list(self._trail)
         return run
 
-    def _begun_again(self):
-        """A new run of the same recipe, with the same name and arguments."""
-        name, arguments, _, _ = self._place
-        return Run(name, self._recipe, arguments)
+    def _new_run(self):
+        """A run of this class, of a recipe that stops at once: its state is still to be set."""
+        return Run("", Recipe())
