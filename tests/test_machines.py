@@ -326,6 +326,96 @@ class CompiledTest(MachineTest):
             Machine(rows, [""])
 
 
+class LoopTest(MachineTest):
+    """Rows that are done again and again, with what they leave on the stack."""
+
+    def loop(self, body, rounds):
+        """Rows that do these rows so many times, counted in variable 9; then the next row comes."""
+        rows = [*push(0), ("store", 9)]
+        start = len(rows)
+        rows += [("turn",), *body, ("load", 9), *push(1), ("op", "+"), ("store", 9), ("load", 9), *push(rounds), ("test", "<")]
+        return rows + [("unless", len(rows) + 2), ("jump", start)], start
+
+    def number(self, chance, depth):
+        kind = chance.choice(["leaf", "two", "two", "size", "neg"] if depth else ["leaf"])
+        if kind == "leaf":
+            return [chance.choice([*push(0, 1, 7, -3, 10 ** 12), ("load", 2), ("load", 3)])]
+        if kind == "two":
+            return self.number(chance, depth - 1) + self.number(chance, depth - 1) + [("op", chance.choice("+-*/"))]
+        return (self.text(chance, 1) + [("op", "size")]) if kind == "size" else self.number(chance, 1) + [("op", "neg")]
+
+    def text(self, chance, depth):
+        kind = chance.choice(["leaf", "two", "part", "digits", "item"] if depth else ["leaf"])
+        if kind == "leaf":
+            return [chance.choice([*push("", "a", "q" * 150), ("load", 0), ("load", 1)])]
+        if kind == "two":
+            return self.text(chance, depth - 1) + self.text(chance, depth - 1) + [("op", "&")]
+        if kind == "part":
+            return self.text(chance, depth - 1) + [*push(1, chance.randint(0, 300)), ("op", "part")]
+        if kind == "digits":
+            return self.number(chance, depth - 1) + [("op", "digits")]
+        return self.text(chance, 1) + self.text(chance, 1) + [("list", 2), *push(chance.randint(-1, 2)), ("op", "item")]
+
+    def body(self, chance):
+        rows = []
+        for kind in chance.choices("tnusc", k=chance.randint(1, 6)):
+            if kind == "t":
+                rows += self.text(chance, 3) + [("store", chance.choice([0, 1]))]
+            elif kind == "n":
+                rows += self.number(chance, 3) + [("store", chance.choice([2, 3]))]
+            elif kind == "u":
+                rows.append(("turn",))
+            elif kind == "s":
+                rows += self.number(chance, 2) + self.text(chance, 2) + [("store", 0), ("store", 2)]
+            else:
+                rows += self.number(chance, 2) + self.number(chance, 1) + [("call", None, 1), ("op", "+"), ("store", 3)]
+        return rows
+
+    def test_loops_by_the_rules_of_the_table(self):
+        taken = 0
+        for seed in range(600):
+            chance = random.Random(seed)
+            rows = [*push(4), ("store", 2), *push(9), ("store", 3)]
+            many = len(rows)
+            loop, start = self.loop(self.body(chance), chance.randint(1, 8))
+            rows += [(row[0], row[1] + many) if row[0] in ("jump", "unless") else row for row in loop]
+            rows += [*push("o"), ("load", 0), WRITE, *push("t", "o"), ("read", 1), *push("none"), ("op", "else"), ("store", 1)]
+            rows += [*push(0), ("store", 9), *push("p"), ("load", 2), ("op", "digits"), WRITE, ("jump", start + many)]
+            function = len(rows)
+            rows += [("turn",), ("load", 0), *push(2), ("op", "+"), ("return",)]
+            rows = [("call", function, 1) if row[0] == "call" else row for row in rows]
+            machine, plain = Machine(rows, ["x", "y"]), PlainMachine(rows, ["x", "y"])
+            while plain.step != STOP:
+                self.assertEqual(machine.step, plain.step)
+                machine = machine.copied() if chance.random() < 0.3 else machine
+                answers = (chance.choice(["ans", None]),) if plain.step[0] == "read" else ()
+                machine(answers)
+                plain.go_on(answers)
+                taken += 1
+            self.assertEqual(machine.step, STOP)
+        self.assertGreater(taken, 1000)
+
+    def test_values_beyond_the_bounds_in_loops(self):
+        for value in ["x" * 401, 10 ** 12 + 1, -10 ** 12 - 1]:
+            for rounds in range(1, 6):
+                kept, _ = self.loop([*push(value), ("store", 5)], rounds)
+                used, _ = self.loop([*push(value), ("store", 5), ("load", 5), ("store", 6)], rounds)
+                self.goes_on(kept)
+                self.stops(used)
+
+    def test_arguments_and_answers_beyond_the_bounds_in_loops(self):
+        for rounds in range(1, 6):
+            used, _ = self.loop([("load", 0), ("store", 1)], rounds)
+            self.stops(used, ["x" * 401])
+            self.goes_on(used, ["x" * 400])
+            rows = [*push("t", "o"), ("read", 1), ("store", 0)]
+            rows += [(row[0], row[1] + 4) if row[0] in ("jump", "unless") else row for row in used] + [*push("o", "t"), WRITE]
+            for answer, step in [("x" * 401, STOP), ("x" * 400, ("write", "o", "t")), (None, ("write", "o", "t"))]:
+                machine = self.machine(rows)
+                machine((answer,))
+                self.assertEqual(machine.step, step)
+
+
 class RecipeTest(MachineTest):
 
     TEXT = ('recipe a b\nwrite "o" = a & b\nread x from "src" . "a"\nrepeat 2 as k\n  if known x\n    write "p" & digits(k) = x '
