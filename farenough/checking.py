@@ -31,7 +31,7 @@ class Checker:
             raise BadKind(line.number)
         self._scope.goes_over(line.word, _introduced(line, kinds))
         if line.word == "recipe":
-            self._first_names = line.named("new")
+            self._first_names = line.introduced
         elif line.word == "define":
             *takes, gives = line.kinds
             self._inner = (line.named("function")[0], tuple(takes), gives)
@@ -43,7 +43,9 @@ class Checker:
     def _check_names(self, line):
         introduced = []
         for role, name in line.uses:
-            if role == "function":
+            if role == "use":
+                right = self._scope.value_of(name) is not None
+            elif role == "function":
                 right = name not in self._first_names and name not in self._begun
                 self._begun.append(name)
             elif role == "new":
@@ -56,12 +58,11 @@ class Checker:
                 raise BadName(line.number, name)
 
     def _may_be_used(self, role, name):
+        """Whether a line may `call` or `set` a name."""
         if role == "call":
             return name in self._functions
         variable = self._scope.value_of(name)
-        if role == "set":
-            return variable is not None and variable[1]
-        return variable is not None
+        return variable is not None and variable[1]
 
     def _fits(self, line, kinds):
         """Whether a line may have expressions of these kinds."""
@@ -81,22 +82,24 @@ class Checker:
         """The kind of an expression, or None if something in it does not fit."""
         kinds = []
         for word, value, many in code:
-            kind = self._kind_of_part(word, value, tuple(taken(kinds, many)))
-            if kind is None:
-                return None
-            kinds.append(kind)
+            if word == "text" or word == "number":
+                kinds.append(word)
+            elif word == "name":
+                kinds.append(self._scope.value_of(value)[0])
+            else:
+                kind = self._kind_of_several(word, value, tuple(taken(kinds, many)))
+                if kind is None:
+                    return None
+                kinds.append(kind)
         return kinds[0]
 
-    def _kind_of_part(self, word, value, operands):
-        if word == "name":
-            return self._scope.value_of(value)[0]
-        if word == "list":
-            return "list" if all([kind == "text" for kind in operands]) else None
+    def _kind_of_several(self, word, value, operands):
+        """The kind of a part that has operands of these kinds, or None."""
         if word == "op":
             return _result_kind(OPERATIONS[value], operands)
         if word == "call":
             return _result_kind(self._functions[value], operands)
-        return word
+        return "list" if all([kind == "text" for kind in operands]) else None
 
 
 def _result_kind(forms, operands):
@@ -120,7 +123,7 @@ def _tests_fit(tests, kinds):
 
 def _introduced(line, kinds):
     """The variables that a line with expressions of these kinds introduces."""
-    names = line.named("new")
+    names = line.introduced
     if line.word == "define":
         kinds = line.kinds
     elif line.word == "read":

@@ -106,7 +106,7 @@ class Compiler:
         """Adds a line that is no part of a block and takes no step; what it introduces."""
         for code in line.codes:
             self._add_code(code)
-        introduced = [(name, self._variable()) for name in line.named("new")]
+        introduced = [(name, self._variable()) for name in line.introduced]
         if line.word == "let":
             self._add("store", introduced[0][1])
         elif line.word == "set":
@@ -132,7 +132,7 @@ class Compiler:
         if line.word == "write":
             self._spots.append((self._add("write"), spot))
             return []
-        introduced = [(name, self._variable()) for name in line.named("new")]
+        introduced = [(name, self._variable()) for name in line.introduced]
         self._spots.append((self._add("read", len(introduced)), spot))
         for _, variable in introduced:
             self._add("store", variable)
@@ -156,7 +156,7 @@ class Compiler:
             self._add("jump", 0)
         self._starts[line.named("function")[0]] = len(self._rows)
         self._many = 0
-        return [(name, self._variable()) for name in line.named("new")]
+        return [(name, self._variable()) for name in line.introduced]
 
     def _begin_loop(self, line, block):
         self._add_code(line.codes[0])
@@ -179,13 +179,13 @@ class Compiler:
 
     def _loop_variables(self, line, block):
         if line.word == "repeat":
-            return [(name, block.index) for name in line.named("new")]
+            return [(name, block.index) for name in line.introduced]
         self._add("load", block.bound)
         self._add("load", block.index)
         self._add("op", "item")
         item = self._variable()
         self._add("store", item)
-        return [(line.named("new")[0], item)]
+        return [(line.introduced[0], item)]
 
     def _end_part(self, word):
         """Adds what comes where the first part of a block ends, or the block; it introduces nothing."""
@@ -232,13 +232,13 @@ class Compiler:
     def _add_code(self, code):
         """Adds the rows of an expression."""
         for word, value, many in code:
-            if word == "name":
-                self._add("load", self._scope.value_of(value))
+            if word == "op":
+                self._rows.append((word, value))
+            elif word == "name":
+                self._rows.append(("load", self._scope.value_of(value)))
             elif word == "list":
-                self._add("list", many)
-            elif word == "op":
-                self._add("op", value)
+                self._rows.append((word, many))
             elif word == "call":
-                self._add("call", self._starts[value], many)
+                self._rows.append((word, self._starts[value], many))
             else:
-                self._add("push", value)
+                self._rows.append(("push", value))

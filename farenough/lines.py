@@ -3,11 +3,11 @@
 from farenough.errors import BadLine
 from farenough.outlines import DEEPEST, Outline
 from farenough.steps import MOST_ARGUMENTS, MOST_KEYS
-from farenough.tokens import FUNCTIONS, tokens_of
+from farenough.tokens import MARKS, tokens_of
 
 MOST_PARAMETERS = 4
 # The operators by how tightly they bind, the loosest ones first.
-LEVELS = (("else",), ("+", "-", "&"), ("*", "/", "mod"))
+LEVELS = {"else": 0, "+": 1, "-": 1, "&": 1, "*": 2, "/": 2, "mod": 2}
 _COMPARISONS = ("=", "!=", "<", "<=", ">", ">=", "in")
 _KINDS = ("text", "number", "list")
 
@@ -21,7 +21,7 @@ class Line:
     or `call` (one of its own), then the value or the name, then the number of operands that are taken from the stack.
     `tests` has the condition of an `if`: in tuples of which one has to hold, tests that all have to hold. A test has
     the number of times that `not` stands before it, its name, and its expressions. `kinds` has the kinds of the
-    parameters and of the result of a definition.
+    parameters and of the result of a definition, `introduced` the names that are new, from the left.
     """
 
     def __init__(self, word, number, reader):
@@ -31,6 +31,7 @@ class Line:
         self.codes = reader.codes
         self.tests = reader.tests
         self.kinds = reader.kinds
+        self.introduced = self.named("new")
 
     def named(self, role):
         """The names with which the line does this, from the left."""
@@ -41,7 +42,8 @@ class LineReader:
     """Reads the tokens of one line from the left, and keeps what the line has. Raises BadLine."""
 
     def __init__(self, tokens, number):
-        self._tokens = tokens
+        # What stands at the end is no token.
+        self._tokens = [*tokens, ""]
         self._number = number
         self._at = 0
         self._depth = 0
@@ -52,48 +54,51 @@ class LineReader:
 
     def read_line(self):
         """The line that the tokens make."""
-        word = self._next_of(_FIRST_WORDS)
+        word = self._tokens[0]
+        if word not in _FORMS:
+            raise BadLine(self._number)
+        self._at = 1
         form = _FORMS[word]
         form(self)
-        if self._at < len(self._tokens):
+        if self.sees_more():
             raise BadLine(self._number)
         return Line(word, self._number, self)
 
-    def sees(self, marks):
-        """Whether one of these keywords and signs comes next."""
-        if self._at == len(self._tokens):
-            return False
-        kind, value = self._tokens[self._at]
-        return kind == "mark" and value in marks
+    def sees_more(self):
+        """Whether a token is left."""
+        return self._at < len(self._tokens) - 1
 
-    def _next(self):
-        if self._at == len(self._tokens):
-            raise BadLine(self._number)
-        self._at += 1
-        return self._tokens[self._at - 1]
+    def sees(self, mark):
+        """Whether this keyword or sign comes next."""
+        return self._tokens[self._at] == mark
 
     def _next_of(self, marks):
-        if not self.sees(marks):
+        """Goes over one of these keywords and signs; which it is."""
+        token = self._tokens[self._at]
+        if token not in marks:
             raise BadLine(self._number)
-        return self._next()[1]
+        self._at += 1
+        return token
 
     def read_mark(self, mark):
         """Goes over this keyword or sign."""
-        self._next_of((mark,))
+        if not self.goes_over(mark):
+            raise BadLine(self._number)
 
     def goes_over(self, mark):
         """Goes over this keyword or sign, if it comes next; whether it did."""
-        seen = self.sees((mark,))
-        if seen:
-            self._at += 1
-        return seen
+        if self._tokens[self._at] != mark:
+            return False
+        self._at += 1
+        return True
 
     def read_name(self, role):
         """Reads a name with which the line does this."""
-        kind, name = self._next()
-        if kind != "name":
+        token = self._tokens[self._at]
+        if token[:1] != ("name",):
             raise BadLine(self._number)
-        self.uses.append((role, name))
+        self._at += 1
+        self.uses.append((role, token[1]))
 
     def read_kind(self):
         """Reads a kind."""
@@ -111,7 +116,7 @@ class LineReader:
 
     def read_first_names(self):
         """Reads the names in the first line."""
-        while self._at < len(self._tokens):
+        while self.sees_more():
             self.read_name("new")
         if len(self.uses) > MOST_ARGUMENTS or len(set(self.uses)) < len(self.uses):
             raise BadLine(self._number)
@@ -122,30 +127,32 @@ class LineReader:
         self._joined(0, code)
         self.codes.append(tuple(code))
 
-    def _joined(self, level, code):
-        """Reads what operators of this level and of tighter ones join."""
-        if level == len(LEVELS):
-            self._unit(code)
-            return
-        self._joined(level + 1, code)
-        while self.sees(LEVELS[level]):
-            _, sign = self._next()
-            self._joined(level + 1, code)
+    def _joined(self, least, code):
+        """Reads what operators of at least this level join."""
+        self._unit(code)
+        sign = self._tokens[self._at]
+        while sign in LEVELS and LEVELS[sign] >= least:
+            self._at += 1
+            self._joined(LEVELS[sign] + 1, code)
             code.append(("op", sign, 2))
+            sign = self._tokens[self._at]
 
     def _unit(self, code):
-        kind, value = self._next()
-        if kind == "name" and self.sees(("(",)):
-            self.uses.append(("call", value))
-            self._call("call", value, code)
-        elif kind == "mark" and value in FUNCTIONS:
-            self._call("op", value, code)
-        elif kind == "mark":
-            self._inner_unit(value, code)
+        token = self._tokens[self._at]
+        # Behind the last token there is only the end, which is no unit.
+        self._at += 1
+        if isinstance(token, str):
+            if MARKS.get(token) == "function":
+                self._call("op", token, code)
+            else:
+                self._inner_unit(token, code)
+        elif token[0] == "name" and self.sees("("):
+            self.uses.append(("call", token[1]))
+            self._call("call", token[1], code)
         else:
-            if kind == "name":
-                self.uses.append(("use", value))
-            code.append((kind, value, 0))
+            if token[0] == "name":
+                self.uses.append(("use", token[1]))
+            code.append(token)
 
     def _call(self, word, name, code):
         self.read_mark("(")
@@ -174,7 +181,7 @@ class LineReader:
         """Reads expressions up to the sign that ends them; how many there are."""
         many = 0
         self._deeper()
-        if not self.sees((end,)):
+        if not self.sees(end):
             many += 1
             self._joined(0, code)
             while self.goes_over(","):
@@ -192,8 +199,8 @@ class LineReader:
     def read_condition(self):
         """Reads a condition."""
         groups = [[self._test()]]
-        while self.sees(("and", "or")):
-            if self._next()[1] == "or":
+        while self.sees("and") or self.sees("or"):
+            if self._next_of(("and", "or")) == "or":
                 groups.append([])
             groups[-1].append(self._test())
         self.tests = [tuple(group) for group in groups]
@@ -222,7 +229,7 @@ def _recipe(reader):
 def _define(reader):
     reader.read_name("function")
     reader.read_mark("(")
-    if not reader.sees((")",)):
+    if not reader.sees(")"):
         reader.read_several(MOST_PARAMETERS, _parameter)
     reader.read_mark(")")
     reader.read_mark("gives")
@@ -293,25 +300,22 @@ _FORMS = {
     "write": _write, "stop": _nothing, "if": _if, "else": _nothing, "end": _nothing, "repeat": _repeat, "for": _for,
     "leave": _nothing, "again": _nothing,
 }
-_FIRST_WORDS = (
-    "recipe", "define", "give", "let", "set", "read", "write", "stop", "if", "else", "end", "repeat", "for", "leave",
-    "again",
-)
 
 
 def lines_of(text):
     """The list of the lines of a program that have tokens; raises BadLine."""
     pieces = text.split("\n")
+    unclosed = [number for number, piece in enumerate(pieces) if piece.count('"') & 1]
+    end = unclosed[0] if unclosed else len(pieces)
     lines, outline = [], Outline()
-    for number, piece in enumerate(pieces):
-        tokens = tokens_of(piece)
-        if tokens is None:
+    for number, tokens in enumerate(tokens_of(pieces[:end])):
+        if None in tokens:
             raise BadLine(number)
         if tokens:
             line = LineReader(tokens, number).read_line()
             if not outline.takes(line.word):
                 raise BadLine(number)
             lines.append(line)
-    if not outline.is_whole():
-        raise BadLine(len(pieces))
+    if unclosed or not outline.is_whole():
+        raise BadLine(end)
     return lines

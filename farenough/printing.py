@@ -4,7 +4,7 @@ from farenough.lines import LEVELS
 from farenough.operations import taken
 from farenough.outlines import BLOCKS
 
-# The level of what is never put in parentheses: it is behind the last one of LEVELS.
+# The level of what is never put in parentheses: it is above those in LEVELS.
 _UNIT = 3
 
 
@@ -21,7 +21,7 @@ def text_of(lines):
 
 
 def _line_text(line):
-    word, names = line.word, line.named("new")
+    word, names = line.word, line.introduced
     texts = [_code_text(code) for code in line.codes]
     if word == "recipe":
         return " ".join([word, *names])
@@ -63,31 +63,31 @@ def _test_text(test):
 
 def _code_text(code):
     """The text of an expression."""
+    # Pairs of the text of a part, and its level.
     stack = []
     for word, value, many in code:
-        stack.append(_part_text(word, value, taken(stack, many)))
+        if word == "name":
+            stack.append((value, _UNIT))
+        elif word == "number":
+            stack.append((str(value), _UNIT))
+        elif word == "text":
+            stack.append((f'"{value}"', _UNIT))
+        else:
+            stack.append(_text_of_several(word, value, taken(stack, many)))
     text, _ = stack[0]
     return text
 
 
-def _part_text(word, value, operands):
-    """The text of a part of an expression, and its level. Operands are such pairs, too."""
-    if word == "text":
-        return f'"{value}"', _UNIT
-    if word == "name" or word == "number":
-        return str(value), _UNIT
-    inner = ", ".join([text for text, _ in operands])
-    if word == "list":
-        return f"[{inner}]", _UNIT
-    if word == "call":
-        return f"{value}({inner})", _UNIT
+def _text_of_several(word, value, operands):
+    """The text of a part that has operands, and its level."""
+    if value in LEVELS:
+        level = LEVELS[value]
+        # Operators of one level are done from the left on, so only the right side needs parentheses then.
+        return f"{_within(operands[0], level)} {value} {_within(operands[1], level + 1)}", level
     if value == "neg":
-        return "-" + _within(operands[0], _UNIT), _UNIT
-    for level, signs in enumerate(LEVELS):
-        if value in signs:
-            # Operators of one level are done from the left on, so only the right side needs parentheses then.
-            return f"{_within(operands[0], level)} {value} {_within(operands[1], level + 1)}", level
-    return f"{value}({inner})", _UNIT
+        return f"-{_within(operands[0], _UNIT)}", _UNIT
+    inner = ", ".join([text for text, _ in operands])
+    return f"[{inner}]" if word == "list" else f"{value}({inner})", _UNIT
 
 
 def _within(operand, least):

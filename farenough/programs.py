@@ -16,7 +16,7 @@ class Program:
             checker.check(line)
         self._text = text_of(self._lines)
         self._code = Compiler(self._lines).code()
-        self._arguments = tuple(self._lines[0].named("new"))
+        self._arguments = tuple(self._lines[0].introduced)
         self._functions = tuple([line.named("function")[0] for line in self._lines if line.word == "define"])
 
     @classmethod

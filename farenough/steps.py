@@ -5,9 +5,6 @@ LONGEST_NAME = 8
 MOST_ARGUMENTS = 4
 MOST_KEYS = 4
 
-# The percent sign is written as a number, since the language keeps it out of strings.
-_PERCENT = 37
-
 
 def is_integer(value):
     """Whether any value is an integer; a boolean is none."""
@@ -16,20 +13,17 @@ def is_integer(value):
 
 def is_text(value):
     """Whether any value is a text."""
-    if not isinstance(value, str) or len(value) > LONGEST_TEXT:
+    if not isinstance(value, str) or len(value) > LONGEST_TEXT or not value.isascii() or not value.isprintable():
         return False
-    return all([" " <= sign <= "~" and ord(sign) != _PERCENT for sign in value])
+    # The percent sign is told by its number, since the language keeps it out of strings.
+    return len(value.translate({37: None})) == len(value)
 
 
 def is_name(value):
     """Whether any value is the name of a target or of an output."""
     if not isinstance(value, str) or not 1 <= len(value) <= LONGEST_NAME:
         return False
-    return _is_letter(value[0]) and all([_is_letter(sign) or "0" <= sign <= "9" for sign in value])
-
-
-def _is_letter(sign):
-    return "a" <= sign <= "z"
+    return "a" <= value[0] <= "z" and value.isascii() and value.isalnum() and value.islower()
 
 
 def is_key(value):
