@@ -80,25 +80,18 @@ class TreeRecipe(Recipe):
     def step_at(self, arguments, answers, count):
         """The step at the place with these arguments, answers and count."""
         node = self._node
+        # All in one function: a place may be far from the beginning, and each step is asked for from there.
         for row in answers:
-            node = _node_after_read(_next_read(node), row)
+            while node[0] == "write":
+                node = node[3]
+            _, _, cases, node = node
+            for given, inner in cases:
+                if given == row:
+                    node = inner
+                    break
         for _ in range(count):
             node = node[3]
         return _step_of(node, (arguments, *answers))
-
-
-def _next_read(node):
-    while node[0] == "write":
-        node = node[3]
-    return node
-
-
-def _node_after_read(node, answers):
-    _, _, cases, last = node
-    for given, inner in cases:
-        if given == answers:
-            return inner
-    return last
 
 
 def _step_of(node, rows):
