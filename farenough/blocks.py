@@ -3,7 +3,7 @@
 from farenough.operations import ACTIONS, taken, within_bounds
 
 
-class Block:
+class RowBlock:
     """What the rows from some row on do, up to a jump, or to a row that has to be done by itself."""
 
     def __init__(self, builder):
@@ -24,7 +24,7 @@ def block_at(rows, at):
     while builder.takes(rows[end]):
         end += 1
     builder.ends_with(rows[end], end)
-    return Block(builder) if builder.following != at else None
+    return RowBlock(builder) if builder.following != at else None
 
 
 class BlockBuilder:
@@ -93,16 +93,20 @@ def _list_of(operands):
 
 def _result_of(action, operands):
     """A function of the variables that does an action with operands. Parts that occur often are looked up at once."""
+    if len(operands) == 1:
+        return _result_of_one(action, operands[0])
     if len(operands) == 2:
         return _result_of_two(action, operands[0], operands[1])
-    word, told = operands[0]
-    if len(operands) == 1:
-        if word == "load":
-            return lambda variables: action(variables[told])
-        first = _function_of(operands[0])
-        return lambda variables: action(first(variables))
     first, second, third = [_function_of(operand) for operand in operands]
     return lambda variables: action(first(variables), second(variables), third(variables))
+
+
+def _result_of_one(action, operand):
+    word, told = operand
+    if word == "load":
+        return lambda variables: action(variables[told])
+    function = _function_of(operand)
+    return lambda variables: action(function(variables))
 
 
 def _result_of_two(action, left, right):

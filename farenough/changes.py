@@ -22,8 +22,8 @@ class Change:
         return Change([(name, after, before) for name, before, after in self._parts])
 
     def __add__(self, other):
-        firsts = self._by_name()
-        seconds = other._by_name()
+        firsts = _by_name(self._parts)
+        seconds = _by_name(other._parts)
         parts = []
         for name in sorted(set(firsts) | set(seconds)):
             before, after = firsts.get(name) or seconds[name]
@@ -49,16 +49,17 @@ class Change:
         """The tuple of the names of the targets that are changed."""
         return tuple([name for name, _, _ in self._parts])
 
-    def _by_name(self):
-        """A new dict of the targets before and after, by their names."""
-        return {name: (before, after) for name, before, after in self._parts}
-
 
 def change_between(project, other):
     """The change that leads from the one project to the other."""
     names = sorted(set(project.names) | set(other.names))
     pairs = [(name, _target_of(project, name), _target_of(other, name)) for name in names]
     return Change([(name, before, after) for name, before, after in pairs if before != after])
+
+
+def _by_name(parts):
+    """A new dict of the targets before and after, by their names."""
+    return {name: (before, after) for name, before, after in parts}
 
 
 def _target_of(project, name):
