@@ -27,7 +27,7 @@ class Checker:
         """Goes over a line."""
         self._check_names(line)
         kinds = [self._kind_of(code) for code in line.codes]
-        if None in kinds or not self._fits(line, kinds):
+        if kinds and (None in kinds or not self._fits(line, kinds)):
             raise BadKind(line.number)
         self._scope.goes_over(line.word, _introduced(line, kinds))
         if line.word == "recipe":
@@ -124,6 +124,8 @@ def _tests_fit(tests, kinds):
 def _introduced(line, kinds):
     """The variables that a line with expressions of these kinds introduces."""
     names = line.introduced
+    if not names:
+        return []
     if line.word == "define":
         kinds = line.kinds
     elif line.word == "read":

@@ -146,12 +146,13 @@ class LineReader:
                 self._call("op", token, code)
             else:
                 self._inner_unit(token, code)
-        elif token[0] == "name" and self.sees("("):
+        elif token[0] != "name":
+            code.append(token)
+        elif self._tokens[self._at] == "(":
             self.uses.append(("call", token[1]))
             self._call("call", token[1], code)
         else:
-            if token[0] == "name":
-                self.uses.append(("use", token[1]))
+            self.uses.append(("use", token[1]))
             code.append(token)
 
     def _call(self, word, name, code):

@@ -60,6 +60,7 @@ def trees():
     return [(path, ast.parse(path.read_text("ascii"))) for path in files()]
 
 
+@functools.cache
 def nodes(kind):
     found = [(path, node) for path, tree in trees() for node in ast.walk(tree) if isinstance(node, kind)]
     return [(f"{path.name}:{getattr(node, 'lineno', '')}", node) for path, node in found]
@@ -254,6 +255,7 @@ def functions():
     return nodes(ast.FunctionDef)
 
 
+@functools.cache
 def generators():
     return {node.name for _, node in functions()
             if any(isinstance(part, (ast.Yield, ast.YieldFrom)) for part in ast.walk(node))}
