@@ -222,10 +222,11 @@ class Walker:
         demanded = {key: True for key in keys}
         waiting = list(demanded)
         while waiting:
-            for key in self.keys_for(waiting.pop()):
-                if key not in demanded:
-                    demanded[key] = True
-                    waiting.append(key)
+            key = waiting.pop()
+            for other in self.keys_for(key):
+                if other not in demanded:
+                    demanded[other] = True
+                    waiting.append(other)
         return list(demanded)
 
     def keys_for(self, key):
