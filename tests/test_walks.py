@@ -7,10 +7,11 @@ from farenough.engine import Engine
 from farenough.projects import Made, Project, Source
 from farenough.records import Record
 from farenough.steps import in_order
+from farenough.walkers import Walker
 from farenough.walks import demand, need, open_places, walk
 from plain import Plain
 from samples import STOP
-from worlds import World
+from worlds import Layers, World
 
 A, B = ("src", "a"), ("src", "b")
 SRC = Source({"a": "1", "b": "2"})
@@ -368,6 +369,31 @@ class ChanceTest(WalkTest):
         self.opens([key], *places)
         self.demands(key, *sorted(plain.demand(key)))
         self.needs(key, list(plain.need(key).items()))
+
+
+class WalkerTest(unittest.TestCase):
+    """A walker that was asked for more keys than those in question, and that goes on when steps are added."""
+
+    def test_some_of_the_keys(self):
+        for seed in range(300):
+            world, chance = (World if seed % 2 else Layers)(seed, [("q",)]), random.Random(seed)
+            workshop, project = world.workshop(), world.project()
+            engine, known = Engine(workshop), {}
+            walker = Walker(project, known, [world.key()])
+            for _ in range(8):
+                keys = [world.key() for _ in range(chance.randint(0, 3))]
+                walker.want(keys)
+                plain = Plain(project, known.get)
+                self.assertEqual(sorted(walker.demanded_by(keys)), sorted(plain.demand(*keys)))
+                self.assertEqual(walker.open_places(keys), in_order(list(plain.open_places(*keys))))
+                self.assertEqual(walker.needed_by(keys), plain.need(*keys))
+                for key in keys:
+                    self.assertEqual(walker.is_settled(key), plain.is_settled(key))
+                    self.assertEqual(walker.answer_of(key), plain.answer(key))
+                for place, step in engine.pursue(project, keys[:1])[:chance.randint(0, 3)]:
+                    known[place] = step
+                engine = Engine(workshop, record=Record(list(known.items())))
+                walker.go_on()
 
 
 if __name__ == "__main__":
