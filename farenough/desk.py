@@ -8,6 +8,7 @@ from farenough.programs import Program
 from farenough.projects import Made, Project, Source
 from farenough.sessions import Session
 from farenough.steps import MOST_ARGUMENTS, is_key, is_name, is_text
+from farenough.tokens import writes_number
 from farenough.walks import need
 from farenough.workshops import Workshop
 
@@ -18,6 +19,7 @@ _ROWS = {
     "need": ("name", "name"), "causes": ("name", "name"), "cut": ("number",), "show": (),
 }
 _CHANGES = ("source", "text", "erase", "drop", "undo", "made")
+# Of the number of a cut.
 _MOST_DIGITS = 6
 
 
@@ -122,14 +124,8 @@ def _is_of_kind(kind, value):
     if kind == "argument":
         return len(value) > 1 and value[0] == '"' and value.find('"', 1) == len(value) - 1 and is_text(value[1:-1])
     if kind == "number":
-        return _writes_number(value)
+        return len(value) <= _MOST_DIGITS and writes_number(value)
     return True
-
-
-def _writes_number(value):
-    if not 1 <= len(value) <= _MOST_DIGITS or not all(["0" <= sign <= "9" for sign in value]):
-        return False
-    return value[0] != "0" or value == "0"
 
 
 def _recipe_in(word):

@@ -2,11 +2,10 @@
 
 from farenough.errors import BadEntry
 from farenough.steps import MOST_ARGUMENTS, MOST_KEYS, is_step, is_text
+from farenough.tokens import writes_number
 from farenough.wording import line_of, word_of
 
 _CHECK_MODULUS = 9973
-# More digits than any number has that fits somewhere.
-_MOST_DIGITS = 9
 
 
 def line_for(body):
@@ -73,8 +72,7 @@ class EntryReader:
         return self._number_in(self.next_word())
 
     def _number_in(self, word):
-        self.check(1 <= len(word) <= _MOST_DIGITS and all(["0" <= sign <= "9" for sign in word]))
-        self.check(word[0] != "0" or word == "0")
+        self.check(writes_number(word))
         return int(word)
 
     def _next_many(self, least, most):

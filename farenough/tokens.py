@@ -70,7 +70,7 @@ def _token(word):
 
 
 def writes_number(text):
-    """Whether a text is the token of a number."""
+    """Whether a string is the token of a number."""
     if not text.isascii() or not text.isdigit() or len(text) > LONGEST_NUMBER:
         return False
     return text[0] != "0" or text == "0"

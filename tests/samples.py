@@ -1,4 +1,4 @@
-"""Short ways to write trees and values, for all tests."""
+"""Short ways to write trees, places, steps and values, for all tests."""
 
 STOP = ("stop",)
 
@@ -15,3 +15,15 @@ def deep(levels, inner=()):
     for _ in range(levels):
         inner = (inner,)
     return inner
+
+
+def at(recipe, *answers, count=0, arguments=()):
+    return (recipe, arguments, answers, count)
+
+
+def put(output, text="1"):
+    return ("write", output, text)
+
+
+def reads(*keys):
+    return ("read", keys)

@@ -13,25 +13,13 @@ from farenough.records import Record
 from farenough.walks import need, walk
 from farenough.workshops import Workshop
 from plain import Plain
-from samples import STOP, read, write
+from samples import STOP, at, put, read, reads, write
 from worlds import World
 
 A, B = ("src", "a"), ("src", "b")
 NY = ("n", "y")
 UP = TreeRecipe(read((A,), (), write("x", ((1, 0),))))
 PAIR = TreeRecipe(read((("m", "x"), B), (), write("y", ((1, 0), (1, 1)))))
-
-
-def at(recipe, *answers, count=0, arguments=()):
-    return (recipe, arguments, answers, count)
-
-
-def put(output, text="1"):
-    return ("write", output, text)
-
-
-def reads(*keys):
-    return ("read", keys)
 
 
 def plain_of(project, record):

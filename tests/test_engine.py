@@ -12,7 +12,7 @@ from farenough.records import Record
 from farenough.walks import need, open_places, walk
 from farenough.workshops import Workshop
 from plain import Plain
-from samples import STOP, read, write
+from samples import STOP, at, put, read, write
 from worlds import World
 
 A, B = ("src", "a"), ("src", "b")
@@ -22,14 +22,6 @@ RING = TreeRecipe(write("w", ("1",), read((("s", "x"),), (), write("x"))))
 # Two ways behind one read, a write on each, and another read.
 WAYS = TreeRecipe(write("v", ("0",), read((A,), ((("1",), write("x", ("one",))), (("2",), STOP)),
                                           write("x", ((1, 0),), read((B,), (), write("y"))))))
-
-
-def at(recipe, *answers, count=0, arguments=()):
-    return (recipe, arguments, answers, count)
-
-
-def put(output, text):
-    return ("write", output, text)
 
 
 def sources(a="1", b="2"):

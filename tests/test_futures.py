@@ -13,16 +13,12 @@ from farenough.steps import is_place, is_step
 from farenough.walks import walk
 from farenough.workshops import Workshop
 from plain import Plain
-from samples import STOP, read, write
+from samples import STOP, at, read, write
 from worlds import World
 
 A, B = ("src", "a"), ("src", "b")
 ANY = [None, True, False, 0, 1, -1, "", "12", (), ("a",), ("n", "y"), ((("n", "y"),),), (1, 2), ((1, 2), (1, 2)),
        (("a", "b"), ("a", "b")), (None, None), ((((((((),),),),),),),), (True, False), ((("n", "y"), ("n", "y")), ("n", "y"))]
-
-
-def at(recipe, *answers, count=0, arguments=()):
-    return (recipe, arguments, answers, count)
 
 
 class FutureTest(unittest.TestCase):

@@ -7,20 +7,8 @@ from farenough.engine import Engine
 from farenough.errors import BadEntry, Clash, Gap, Rewritten
 from farenough.journals import Journal
 from farenough.records import Record
-from samples import STOP
+from samples import STOP, at, put, reads
 from worlds import Layers, World
-
-
-def at(recipe, *answers, count=0, arguments=()):
-    return (recipe, arguments, answers, count)
-
-
-def put(output, text="1"):
-    return ("write", output, text)
-
-
-def reads(*keys):
-    return ("read", keys)
 
 
 def line(body):

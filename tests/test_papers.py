@@ -11,18 +11,10 @@ from farenough.records import Record
 from farenough.steps import is_place, is_step
 from farenough.walks import need, walk
 from plain import Plain
-from samples import STOP
+from samples import STOP, at, put
 from worlds import World
 
 A, B = ("src", "a"), ("src", "b")
-
-
-def at(recipe, *answers, count=0, arguments=()):
-    return (recipe, arguments, answers, count)
-
-
-def put(output, text="1"):
-    return ("write", output, text)
 
 
 class PaperCase(unittest.TestCase):

@@ -8,7 +8,7 @@ from farenough.errors import Clash, Gap, NoPlace, Rewritten
 from farenough.records import Record
 from farenough.steps import in_order, is_behind
 from farenough.workshops import Workshop
-from samples import STOP
+from samples import STOP, put
 from worlds import World
 
 A, B = ("src", "a"), ("src", "b")
@@ -17,10 +17,6 @@ READ, PAIR = ("read", (A,)), ("read", (A, B))
 
 def at(*answers, count=0, recipe="r", arguments=()):
     return (recipe, arguments, answers, count)
-
-
-def put(output, text="1"):
-    return ("write", output, text)
 
 
 # A write, a read, two ways behind it, one of them with another read behind a write.

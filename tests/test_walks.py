@@ -10,23 +10,11 @@ from farenough.steps import in_order
 from farenough.walkers import Walker
 from farenough.walks import demand, need, open_places, walk
 from plain import Plain
-from samples import STOP
+from samples import STOP, at, put, reads
 from worlds import Layers, World
 
 A, B = ("src", "a"), ("src", "b")
 SRC = Source({"a": "1", "b": "2"})
-
-
-def at(recipe, *answers, count=0, arguments=()):
-    return (recipe, arguments, answers, count)
-
-
-def put(output, text="1"):
-    return ("write", output, text)
-
-
-def reads(*keys):
-    return ("read", keys)
 
 
 class WalkTest(unittest.TestCase):

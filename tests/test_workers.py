@@ -13,7 +13,7 @@ from farenough.walks import demand, need, open_places, walk
 from farenough.workers import Shift, far_end, shift
 from farenough.workshops import Workshop
 from plain import Plain
-from samples import STOP, read, write
+from samples import STOP, at, read, write
 from worlds import Layers, World
 
 A, B = ("src", "a"), ("src", "b")
@@ -24,10 +24,6 @@ RING = TreeRecipe(write("w", ("1",), read((("s", "x"),), (), write("x"))))
 BOTH = TreeRecipe(read((("p", "x"), ("q", "x")), (), write("x", ((1, 0), (1, 1)))))
 # Reads one or the other, as the first answer tells.
 EITHER = TreeRecipe(read((A,), ((("1",), read((("p", "x"),), (), write("x"))),), read((("q", "x"),), (), write("x"))))
-
-
-def at(recipe, *answers, count=0, arguments=()):
-    return (recipe, arguments, answers, count)
 
 
 class PlainShift:
