@@ -113,7 +113,7 @@ def _tests_fit(tests, kinds):
     """Whether tests may have expressions of these kinds, from the left."""
     begin = 0
     for group in tests:
-        for _, name, codes in group:
+        for _, name, codes, _ in group:
             end = begin + len(codes)
             if tuple(kinds[begin:end]) not in TESTS[name]:
                 return False

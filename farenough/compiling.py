@@ -222,7 +222,7 @@ class Compiler:
         return failing
 
     def _add_test(self, test):
-        nots, name, codes = test
+        nots, name, codes, _ = test
         for code in codes:
             self._add_code(code)
         self._add("test", name)

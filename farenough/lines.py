@@ -7,7 +7,9 @@ from farenough.tokens import MARKS, tokens_of
 
 MOST_PARAMETERS = 4
 # The operators by how tightly they bind, the loosest ones first.
-LEVELS = {"else": 0, "+": 1, "-": 1, "&": 1, "*": 2, "/": 2, "mod": 2}
+_LEVELS = {"else": 0, "+": 1, "-": 1, "&": 1, "*": 2, "/": 2, "mod": 2}
+# The level of what is never put in parentheses: it is above those in _LEVELS.
+_UNIT = 3
 _COMPARISONS = ("=", "!=", "<", "<=", ">", ">=", "in")
 _KINDS = ("text", "number", "list")
 
@@ -19,9 +21,10 @@ class Line:
     `call`. `codes` has the expressions of the line. An expression is a tuple of parts in the order in which a machine
     with a stack does them: `number`, `text`, `name`, `list`, `op` (an operator, or a function that all programs have)
     or `call` (one of its own), then the value or the name, then the number of operands that are taken from the stack.
-    `tests` has the condition of an `if`: in tuples of which one has to hold, tests that all have to hold. A test has
-    the number of times that `not` stands before it, its name, and its expressions. `kinds` has the kinds of the
-    parameters and of the result of a definition, `introduced` the names that are new, from the left.
+    `shown` has the texts of the expressions. `tests` has the condition of an `if`: in tuples of which one has to hold,
+    tests that all have to hold. A test has the number of times that `not` stands before it, its name, its expressions,
+    and their texts. `kinds` has the kinds of the parameters and of the result of a definition, `introduced` the names
+    that are new, from the left.
     """
 
     def __init__(self, word, number, reader):
@@ -29,6 +32,7 @@ class Line:
         self.number = number
         self.uses = reader.uses
         self.codes = reader.codes
+        self.shown = reader.shown
         self.tests = reader.tests
         self.kinds = reader.kinds
         self.introduced = self.named("new")
@@ -49,6 +53,7 @@ class LineReader:
         self._depth = 0
         self.uses = []
         self.codes = []
+        self.shown = []
         self.tests = []
         self.kinds = []
 
@@ -124,73 +129,81 @@ class LineReader:
     def read_expression(self):
         """Reads an expression."""
         code = []
-        self._joined(0, code)
+        text, _ = self._joined(0, code)
         self.codes.append(tuple(code))
+        self.shown.append(text)
 
     def _joined(self, least, code):
-        """Reads what operators of at least this level join."""
-        self._unit(code)
+        """Reads what operators of at least this level join; how it is shown, and its level."""
+        text, level = self._unit(code)
         sign = self._tokens[self._at]
-        while sign in LEVELS and LEVELS[sign] >= least:
+        while sign in _LEVELS and _LEVELS[sign] >= least:
             self._at += 1
-            self._joined(LEVELS[sign] + 1, code)
+            joining = _LEVELS[sign]
+            right, tightness = self._joined(joining + 1, code)
             code.append(("op", sign, 2))
+            # Operators of one level are done from the left on: only on the right they need parentheses.
+            left = text if level >= joining else f"({text})"
+            text = f"{left} {sign} {right}" if tightness > joining else f"{left} {sign} ({right})"
+            level = joining
             sign = self._tokens[self._at]
+        return text, level
 
     def _unit(self, code):
+        """Reads a unit; how it is shown, and its level, which is that of what is in it if parentheses stand around."""
         token = self._tokens[self._at]
         # Behind the last token there is only the end, which is no unit.
         self._at += 1
         if isinstance(token, str):
-            if MARKS.get(token) == "function":
-                self._call("op", token, code)
-            else:
-                self._inner_unit(token, code)
-        elif token[0] != "name":
-            code.append(token)
-        elif self._tokens[self._at] == "(":
-            self.uses.append(("call", token[1]))
-            self._call("call", token[1], code)
-        else:
-            self.uses.append(("use", token[1]))
-            code.append(token)
+            return self._call("op", token, code) if MARKS.get(token) == "function" else self._inner_unit(token, code)
+        kind, value, _ = token
+        if kind == "name":
+            if self._tokens[self._at] == "(":
+                self.uses.append(("call", value))
+                return self._call("call", value, code)
+            self.uses.append(("use", value))
+        code.append(token)
+        if kind == "name":
+            return value, _UNIT
+        return str(value) if kind == "number" else f'"{value}"', _UNIT
 
     def _call(self, word, name, code):
         self.read_mark("(")
-        many = self._inner_list(")", code)
-        code.append((word, name, many))
+        shown = self._inner_list(")", code)
+        code.append((word, name, len(shown)))
+        return f"{name}({', '.join(shown)})", _UNIT
 
     def _inner_unit(self, sign, code):
         """Reads on behind a sign that begins a unit."""
-        if sign == "(":
-            self._deeper()
-            self._joined(0, code)
-            self.read_mark(")")
-            self._depth -= 1
-        elif sign == "[":
-            many = self._inner_list("]", code)
-            code.append(("list", "", many))
-        elif sign == "-":
-            self._deeper()
-            self._unit(code)
-            code.append(("op", "neg", 1))
-            self._depth -= 1
-        else:
+        if sign == "[":
+            shown = self._inner_list("]", code)
+            code.append(("list", "", len(shown)))
+            return f"[{', '.join(shown)}]", _UNIT
+        if sign not in ("(", "-"):
             raise BadLine(self._number)
+        self._deeper()
+        if sign == "(":
+            text, level = self._joined(0, code)
+            self.read_mark(")")
+        else:
+            text, level = self._unit(code)
+            text = f"-{text}" if level == _UNIT else f"-({text})"
+            level = _UNIT
+            code.append(("op", "neg", 1))
+        self._depth -= 1
+        return text, level
 
     def _inner_list(self, end, code):
-        """Reads expressions up to the sign that ends them; how many there are."""
-        many = 0
+        """Reads expressions up to the sign that ends them; the list of how they are shown."""
+        shown = []
         self._deeper()
-        if not self.sees(end):
-            many += 1
-            self._joined(0, code)
+        if not self.goes_over(end):
+            shown.append(self._joined(0, code)[0])
             while self.goes_over(","):
-                many += 1
-                self._joined(0, code)
-        self.read_mark(end)
+                shown.append(self._joined(0, code)[0])
+            self.read_mark(end)
         self._depth -= 1
-        return many
+        return shown
 
     def _deeper(self):
         self._depth += 1
@@ -220,7 +233,7 @@ class LineReader:
             name = self._next_of(_COMPARISONS)
             self.read_expression()
         self._depth -= nots
-        return nots, name, tuple(self.codes[begin:])
+        return nots, name, tuple(self.codes[begin:]), tuple(self.shown[begin:])
 
 
 def _recipe(reader):

@@ -1,11 +1,6 @@
 """Programs as texts."""
 
-from farenough.lines import LEVELS
-from farenough.operations import taken
 from farenough.outlines import BLOCKS
-
-# The level of what is never put in parentheses: it is above those in LEVELS.
-_UNIT = 3
 
 
 def text_of(lines):
@@ -21,8 +16,7 @@ def text_of(lines):
 
 
 def _line_text(line):
-    word, names = line.word, line.introduced
-    texts = [_code_text(code) for code in line.codes]
+    word, names, texts = line.word, line.introduced, line.shown
     if word == "recipe":
         return " ".join([word, *names])
     if word == "define":
@@ -54,43 +48,7 @@ def _definition_text(line, names):
 
 
 def _test_text(test):
-    nots, name, codes = test
-    texts = [_code_text(code) for code in codes]
+    nots, name, _, texts = test
     if name == "known":
         return "not " * nots + f"known {texts[0]}"
     return "not " * nots + f"{texts[0]} {name} {texts[1]}"
-
-
-def _code_text(code):
-    """The text of an expression."""
-    # Pairs of the text of a part, and its level.
-    stack = []
-    for word, value, many in code:
-        if word == "name":
-            stack.append((value, _UNIT))
-        elif word == "number":
-            stack.append((str(value), _UNIT))
-        elif word == "text":
-            stack.append((f'"{value}"', _UNIT))
-        else:
-            stack.append(_text_of_several(word, value, taken(stack, many)))
-    text, _ = stack[0]
-    return text
-
-
-def _text_of_several(word, value, operands):
-    """The text of a part that has operands, and its level."""
-    if value in LEVELS:
-        level = LEVELS[value]
-        # Operators of one level are done from the left on, so only the right side needs parentheses then.
-        return f"{_within(operands[0], level)} {value} {_within(operands[1], level + 1)}", level
-    if value == "neg":
-        return f"-{_within(operands[0], _UNIT)}", _UNIT
-    inner = ", ".join([text for text, _ in operands])
-    return f"[{inner}]" if word == "list" else f"{value}({inner})", _UNIT
-
-
-def _within(operand, least):
-    """The text of an operand, in parentheses if its level is less than this."""
-    text, level = operand
-    return text if level >= least else f"({text})"
